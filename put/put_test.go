@@ -15,9 +15,6 @@ import (
 	"sparsetree/node"
 )
 
-// bitsOfHashers are numbers of bits with all digests alike, with many alike, and with none.
-var bitsOfHashers = []int{0, 1, 12, 255, 256}
-
 // checkTree checks that a tree, or a subtree, is the same one as another.
 func checkTree(t *testing.T, name string, h *digest.Hasher, got, want *node.Node) {
 	t.Helper()
@@ -61,7 +58,7 @@ func TestPutWithFewBits(t *testing.T) {
 
 // P9.1: in the tree without keys, the result is the leaf.
 func TestPutToTheTreeWithoutKeys(t *testing.T) {
-	for _, n := range bitsOfHashers {
+	for _, n := range plain.Bits() {
 		h := plain.Hasher(n)
 		for _, k := range plain.Keys() {
 			for _, v := range [][]byte{nil, {}, {0}, []byte("value")} {
@@ -110,7 +107,7 @@ func TestPutBesideAKey(t *testing.T) {
 
 // P9.1: the greatest depth, for the first two keys there and for others beside the way to them.
 func TestPutAt256Levels(t *testing.T) {
-	for _, n := range bitsOfHashers {
+	for _, n := range plain.Bits() {
 		h := plain.Hasher(n)
 		for _, k := range plain.Keys() {
 			m := plain.OfKeys("one key", k)
@@ -219,11 +216,7 @@ func TestAtEachDepth(t *testing.T) {
 	h := plain.Hasher(256)
 	for _, k := range plain.Keys()[5:] {
 		e := api.Entry{Key: k, Value: []byte("at")}
-		for _, m := range []plain.Map{
-			plain.OfKeys("no keys"), plain.OfKeys("this key", k), plain.OfKeys("last bit", plain.Flipped(k, 255)),
-			plain.OfKeys("both", k, plain.Flipped(k, 255)), plain.OfKeys("another one", plain.Flipped(k, 100), plain.Flipped(k, 100, 101)),
-			plain.OfKeys("all beside", plain.Neighbours(k)...), plain.OfKeys("all beside without", plain.Neighbours(k)[1:]...),
-		} {
+		for _, m := range plain.Around(k) {
 			for depth := range 257 {
 				checkAt(t, h, m, e, depth)
 			}
@@ -233,7 +226,7 @@ func TestAtEachDepth(t *testing.T) {
 
 // P9.2: at depth 256, the result is the leaf of the key.
 func TestAtDepth256(t *testing.T) {
-	for _, n := range bitsOfHashers {
+	for _, n := range plain.Bits() {
 		h := plain.Hasher(n)
 		for _, k := range plain.Keys() {
 			e := api.Entry{Key: k, Value: []byte("new")}
@@ -358,17 +351,6 @@ func checkAll(t *testing.T, h *digest.Hasher, m plain.Map, l []api.Entry) {
 	}
 }
 
-// entries are the entries of a map in another order than that of the keys.
-func entries(m plain.Map) []api.Entry {
-	var l []api.Entry
-	for first := range 3 {
-		for i := first; i < len(m.Members); i += 3 {
-			l = append(l, m.Members[i].Entry)
-		}
-	}
-	return l
-}
-
 // P9.4: maps as a whole, to the tree without keys and to trees of other maps.
 func TestAllOfMaps(t *testing.T) {
 	for _, n := range []int{256, 0, 12} {
@@ -377,8 +359,8 @@ func TestAllOfMaps(t *testing.T) {
 			if n != 256 && i >= 30 {
 				break
 			}
-			checkAll(t, h, plain.OfKeys("no keys"), entries(m))
-			checkAll(t, h, plain.OfKeys("0 and 51", api.Key{}, plain.Filled(0x33)), entries(m))
+			checkAll(t, h, plain.OfKeys("no keys"), m.Mixed())
+			checkAll(t, h, plain.OfKeys("0 and 51", api.Key{}, plain.Filled(0x33)), m.Mixed())
 		}
 	}
 }
@@ -417,27 +399,13 @@ func TestAllOfTheSameKeyTwice(t *testing.T) {
 	}
 }
 
-// orders calls a function with each order of a list.
-func orders(l []api.Entry, call func(l []api.Entry)) {
-	if len(l) == 0 {
-		call(nil)
-	}
-	for i := range l {
-		orders(slices.Delete(slices.Clone(l), i, i+1), func(rest []api.Entry) { call(append(rest, l[i])) })
-	}
-}
-
 // P9.5: all orders of a few keys, which lie beside and above each other.
 func TestOrderOfFewEntries(t *testing.T) {
-	for _, n := range bitsOfHashers {
+	for _, n := range plain.Bits() {
 		h := plain.Hasher(n)
-		for _, m := range []plain.Map{
-			plain.OfKeys("beside", api.Key{}, api.Key{64}, api.Key{128}, api.Key{129}, api.Key{255}),
-			plain.OfKeys("at the end", api.Key{}, api.Key{31: 1}, api.Key{31: 2}, api.Key{31: 3}, api.Key{128}),
-			plain.OfKeys("scattered", plain.Scattered(99, 5)...),
-		} {
+		for _, m := range plain.Fives() {
 			want, count := m.Tree(h), 0
-			orders(entries(m), func(l []api.Entry) {
+			plain.Orders(m.Mixed(), func(l []api.Entry) {
 				checkTree(t, fmt.Sprint(m.Name, ", order ", count), h, All(h, nil, l), want)
 				count++
 			})
@@ -452,7 +420,7 @@ func TestOrderOfFewEntries(t *testing.T) {
 func TestOrderOfManyEntries(t *testing.T) {
 	h := plain.Hasher(256)
 	for _, m := range plain.Large() {
-		want, l := m.Tree(h), entries(m)
+		want, l := m.Tree(h), m.Mixed()
 		checkTree(t, m.Name+", mixed", h, All(h, nil, l), want)
 		slices.Reverse(l)
 		checkTree(t, m.Name+", mixed and reversed", h, All(h, nil, l), want)
@@ -474,7 +442,7 @@ func TestPutOfTheSameEntryAgain(t *testing.T) {
 				checkTree(t, m.Name+", At again", h, At(h, tree, x.Entry, 0), tree)
 			}
 			if len(m.Members) <= 300 {
-				checkTree(t, m.Name+", all again", h, All(h, tree, entries(m)), tree)
+				checkTree(t, m.Name+", all again", h, All(h, tree, m.Mixed()), tree)
 			}
 		}
 	}
@@ -517,7 +485,7 @@ func TestNumbersBeyondTheDepths(t *testing.T) {
 func TestConcurrentCalls(t *testing.T) {
 	h := plain.Hasher(256)
 	m := plain.Large()[3]
-	tree, l := m.Tree(h), entries(plain.OfKeys("other keys", plain.Scattered(5, 20)...))
+	tree, l := m.Tree(h), plain.OfKeys("other keys", plain.Scattered(5, 20)...).Mixed()
 	want := All(h, tree, l)
 	var wait sync.WaitGroup
 	for range 8 {

@@ -3,6 +3,7 @@ package plain
 import (
 	"bytes"
 	"math"
+	"slices"
 
 	"sparsetree/api"
 )
@@ -71,4 +72,14 @@ func Numbers() []int {
 		l = append(l, i)
 	}
 	return l
+}
+
+// Orders calls a function with each order of a list.
+func Orders[T any](l []T, call func(l []T)) {
+	if len(l) == 0 {
+		call(nil)
+	}
+	for i := range l {
+		Orders(slices.Delete(slices.Clone(l), i, i+1), func(rest []T) { call(append(rest, l[i])) })
+	}
 }

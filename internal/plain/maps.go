@@ -42,6 +42,24 @@ func Large() []Map {
 	return l
 }
 
+// Around returns maps of a key and of keys beside it: so that each subtree on the way of the key is empty, a leaf with this key or another one, or an inner node.
+func Around(k api.Key) []Map {
+	return []Map{
+		OfKeys("no keys"), OfKeys("this key", k), OfKeys("last bit", Flipped(k, 255)),
+		OfKeys("both", k, Flipped(k, 255)), OfKeys("another one", Flipped(k, 100), Flipped(k, 100, 101)),
+		OfKeys("all beside", Neighbours(k)...), OfKeys("all beside without", Neighbours(k)[1:]...),
+	}
+}
+
+// Fives returns maps of five keys, which lie beside and above each other.
+func Fives() []Map {
+	return []Map{
+		OfKeys("beside", api.Key{}, api.Key{64}, api.Key{128}, api.Key{129}, api.Key{255}),
+		OfKeys("at the end", api.Key{}, api.Key{31: 1}, api.Key{31: 2}, api.Key{31: 3}, api.Key{128}),
+		OfKeys("scattered", Scattered(99, 5)...),
+	}
+}
+
 // Queries returns keys to look for: some that are in the map, such that differ from them in few bits, and others.
 func (m Map) Queries() []api.Key {
 	l := Keys()

@@ -51,6 +51,35 @@ func (m Map) Put(e api.Entry) Map {
 	return Map{m.Name, slices.Concat(m.Members[:i], []Member{x}, m.Members[i:])}
 }
 
+// Remove returns the map without a key, and whether the map had it.
+func (m Map) Remove(k api.Key) (Map, bool) {
+	i, found := m.search(Text(k))
+	if !found {
+		return m, false
+	}
+	return Map{m.Name, slices.Concat(m.Members[:i], m.Members[i+1:])}, true
+}
+
+// Keys returns the keys of the map in ascending order.
+func (m Map) Keys() []api.Key {
+	l := make([]api.Key, len(m.Members))
+	for i, x := range m.Members {
+		l[i] = x.Entry.Key
+	}
+	return l
+}
+
+// Mixed returns the entries of the map in another order than that of the keys.
+func (m Map) Mixed() []api.Entry {
+	var l []api.Entry
+	for first := range 3 {
+		for i := first; i < len(m.Members); i += 3 {
+			l = append(l, m.Members[i].Entry)
+		}
+	}
+	return l
+}
+
 // search returns the place of a key, and whether the map has it.
 func (m Map) search(digits string) (int, bool) {
 	return slices.BinarySearchFunc(m.Members, digits, func(x Member, s string) int { return strings.Compare(x.Text, s) })
@@ -102,6 +131,9 @@ func Subtree(h *digest.Hasher, l []Member, depth int) *node.Node {
 	}
 	return node.Join(h, Subtree(h, l[:zeros], depth+1), Subtree(h, l[zeros:], depth+1))
 }
+
+// Bits returns numbers of bits with all digests alike, with many alike, and with none.
+func Bits() []int { return []int{0, 1, 12, 255, 256} }
 
 // Hasher returns a hasher for a number of bits from 0 to 256.
 func Hasher(bits int) *digest.Hasher {
