@@ -29,15 +29,6 @@ func inOrder(l ...Change) []Change {
 	return slices.CompactFunc(l, func(a, b Change) bool { return a.Key == b.Key })
 }
 
-// entries are the entries of a map in ascending order.
-func entries(m plain.Map) []api.Entry {
-	var l []api.Entry
-	for _, x := range m.Members {
-		l = append(l, x.Entry)
-	}
-	return l
-}
-
 // after is the map after changes.
 func after(m plain.Map, l []Change) plain.Map {
 	for _, c := range l {
@@ -198,13 +189,13 @@ func removals(m plain.Map, chosen func(i int) bool) []Change {
 // P12.1: the entries of maps, also where they are none or one.
 func TestBuildOfMaps(t *testing.T) {
 	eachMap(func(h *digest.Hasher, m plain.Map) {
-		l := entries(m)
+		l := m.Entries()
 		got, errno := Build(h, l)
 		if errno != api.OK {
 			t.Fatalf("%s: %v", m.Name, errno)
 		}
 		checkTree(t, m.Name, h, got, m.Tree(h))
-		if !slices.EqualFunc(l, entries(m), func(a, b api.Entry) bool { return a.Key == b.Key && bytes.Equal(a.Value, b.Value) }) {
+		if !slices.EqualFunc(l, m.Entries(), plain.Same) {
 			t.Fatalf("%s: the list is another one", m.Name)
 		}
 	})
@@ -233,7 +224,7 @@ func TestBuildOfTwoKeys(t *testing.T) {
 	for i := range api.Depth {
 		k := plain.Filled(0x33)
 		m := plain.OfKeys(fmt.Sprint("bit ", i), k, plain.Flipped(k, i))
-		l := entries(m)
+		l := m.Entries()
 		got, errno := Build(h, l)
 		if errno != api.OK {
 			t.Fatalf("%s: %v", m.Name, errno)
@@ -522,7 +513,7 @@ func TestValues(t *testing.T) {
 func TestListsThatAreChangedAfterTheCall(t *testing.T) {
 	h := plain.Hasher(256)
 	for _, m := range plain.Large()[:4] {
-		l := entries(m)
+		l := m.Entries()
 		for i := range l {
 			l[i].Value = slices.Clone(l[i].Value)
 		}
@@ -779,7 +770,7 @@ func TestConcurrentCalls(t *testing.T) {
 	m := plain.Large()[3]
 	l := some(append(m.Keys(), plain.Scattered(5, 50)...), func(i int, k api.Key) (Change, bool) { return Change{k, []byte{byte(i)}, i%2 == 0}, true })
 	next := after(m, l)
-	tree, changed, all := m.Tree(h), next.Tree(h), entries(m)
+	tree, changed, all := m.Tree(h), next.Tree(h), m.Entries()
 	var wait sync.WaitGroup
 	for range 8 {
 		own := h.Fork()

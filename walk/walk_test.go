@@ -18,18 +18,6 @@ import (
 	"sparsetree/remove"
 )
 
-// same reports whether two entries have the same key and value.
-func same(a, b api.Entry) bool { return a.Key == b.Key && bytes.Equal(a.Value, b.Value) }
-
-// entries are the entries of some members.
-func entries(l []plain.Member) []api.Entry {
-	var list []api.Entry
-	for _, x := range l {
-		list = append(list, x.Entry)
-	}
-	return list
-}
-
 // before is the number of members whose keys are before a key, as their digits tell it.
 func before(l []plain.Member, k api.Key) int {
 	count, digits := 0, plain.Text(k)
@@ -53,7 +41,7 @@ func collect(seq iter.Seq2[api.Key, []byte]) []api.Entry {
 // checkEntries checks a list of entries, in order.
 func checkEntries(t *testing.T, name string, got, want []api.Entry) {
 	t.Helper()
-	if !slices.EqualFunc(got, want, same) {
+	if !slices.EqualFunc(got, want, plain.Same) {
 		t.Fatalf("%s: %d entries %x, want %d: %x", name, len(got), got, len(want), want)
 	}
 }
@@ -139,7 +127,7 @@ func eachMap(call func(m plain.Map, n *node.Node)) {
 // P11.1: all keys with their values in order, by a loop and as a list.
 func TestAllAndEntriesOfMaps(t *testing.T) {
 	eachMap(func(m plain.Map, n *node.Node) {
-		want := entries(m.Members)
+		want := m.Entries()
 		checkEntries(t, m.Name+", All", collect(All(n)), want)
 		checkEntries(t, m.Name+", Entries", Entries(n), want)
 	})
@@ -181,7 +169,7 @@ func TestTheTreeOfOneKey(t *testing.T) {
 			t.Errorf("Depths = %v", l)
 		}
 		e, ok := Nth(n, 0)
-		if !ok || !same(e, only[0]) || Rank(n, k) != 0 {
+		if !ok || !plain.Same(e, only[0]) || Rank(n, k) != 0 {
 			t.Errorf("%x: Nth = %x, %v, and Rank = %d", k, e, ok, Rank(n, k))
 		}
 		checkEntries(t, "From", From(n, k, 1), only)
@@ -202,7 +190,7 @@ func TestTheTreeOfOneKey(t *testing.T) {
 // P11.1: a loop that is left at the first entry, in the middle or at the last one yields nothing more, and the sequence can be used again.
 func TestLeavingALoop(t *testing.T) {
 	eachMap(func(m plain.Map, n *node.Node) {
-		want, seq := entries(m.Members), All(n)
+		want, seq := m.Entries(), All(n)
 		for _, last := range places(len(want)) {
 			var got []api.Entry
 			for k, v := range seq {
@@ -230,7 +218,7 @@ func TestLeavingALoop(t *testing.T) {
 func TestLeavingALoopAtEachEntry(t *testing.T) {
 	h := plain.Hasher(256)
 	for _, m := range append(plain.Fives(), plain.OfKeys("beside", plain.Neighbours(plain.Filled(0x5a))...)) {
-		want, seq := entries(m.Members), All(m.Tree(h))
+		want, seq := m.Entries(), All(m.Tree(h))
 		for last := range want {
 			var got []api.Entry
 			seq(func(k api.Key, v []byte) bool {
@@ -249,7 +237,7 @@ func TestALoopInsideAnother(t *testing.T) {
 		if len(m.Members) > 300 {
 			continue
 		}
-		want, seq := entries(m.Members), All(m.Tree(h))
+		want, seq := m.Entries(), All(m.Tree(h))
 		var outer []api.Entry
 		for k, v := range seq {
 			outer = append(outer, api.Entry{Key: k, Value: v})
@@ -267,7 +255,7 @@ func TestALoopInsideAnother(t *testing.T) {
 // P11.1: two loops over the same sequence may be at different entries by turns.
 func TestLoopsByTurns(t *testing.T) {
 	m := plain.Large()[2]
-	want, seq := entries(m.Members), All(m.Tree(plain.Hasher(256)))
+	want, seq := m.Entries(), All(m.Tree(plain.Hasher(256)))
 	one, stopOne := iter.Pull2(seq)
 	defer stopOne()
 	two, stopTwo := iter.Pull2(seq)
@@ -299,8 +287,8 @@ func TestALoopWhileOtherTreesAreMade(t *testing.T) {
 			other, _ = remove.Remove(h, other, k)
 			other = put.Put(h, other, api.Entry{Key: plain.Flipped(k, 3), Value: []byte("new")})
 		}
-		checkEntries(t, m.Name, got, entries(m.Members))
-		checkEntries(t, m.Name+", afterwards", Entries(n), entries(m.Members))
+		checkEntries(t, m.Name, got, m.Entries())
+		checkEntries(t, m.Name+", afterwards", Entries(n), m.Entries())
 	}
 }
 
@@ -322,7 +310,7 @@ func TestAPanicInALoop(t *testing.T) {
 	if caught != "third" || count != 3 {
 		t.Errorf("caught %v after %d keys", caught, count)
 	}
-	checkEntries(t, "afterwards", collect(seq), entries(m.Members))
+	checkEntries(t, "afterwards", collect(seq), m.Entries())
 }
 
 // P11.1 to P11.3: values without bytes, and long ones, are yielded and returned as they are.
@@ -335,7 +323,7 @@ func TestValues(t *testing.T) {
 	checkEntries(t, "Entries", Entries(n), want)
 	checkEntries(t, "From", From(n, api.Key{}, 9), want)
 	for i, x := range want {
-		if e, ok := Nth(n, i); !ok || !same(e, x) {
+		if e, ok := Nth(n, i); !ok || !plain.Same(e, x) {
 			t.Errorf("Nth of %d: %v, %d bytes", i, ok, len(e.Value))
 		}
 	}
@@ -353,7 +341,7 @@ func spoil(v []byte) {
 func TestValuesAreCopied(t *testing.T) {
 	h := plain.Hasher(256)
 	for _, m := range plain.Maps() {
-		n, want := m.Tree(h), entries(m.Members)
+		n, want := m.Tree(h), m.Entries()
 		seq, kept := All(n), Entries(n)
 		first, _ := Nth(n, 0)
 		for _, v := range seq {
@@ -368,7 +356,7 @@ func TestValuesAreCopied(t *testing.T) {
 		e, _ := Nth(n, 0)
 		spoil(e.Value)
 		again, _ := Nth(n, 0)
-		if !same(again, first) {
+		if !plain.Same(again, first) {
 			t.Fatalf("%s: Nth = %x after a change, want %x", m.Name, again, first)
 		}
 		checkEntries(t, m.Name+", those of before", kept, want)
@@ -380,7 +368,7 @@ func TestValuesAreCopied(t *testing.T) {
 // P11.1 to P11.3: the values of one result share no memory with each other.
 func TestValuesOfOneResult(t *testing.T) {
 	m := plain.Large()[2]
-	n, want := m.Tree(plain.Hasher(256)), entries(m.Members)
+	n, want := m.Tree(plain.Hasher(256)), m.Entries()
 	for _, l := range [][]api.Entry{collect(All(n)), Entries(n), From(n, api.Key{}, math.MaxInt)} {
 		for i := range l {
 			spoil(l[i].Value)
@@ -393,7 +381,7 @@ func TestValuesOfOneResult(t *testing.T) {
 func TestFromOfMaps(t *testing.T) {
 	eachMap(func(m plain.Map, n *node.Node) {
 		for _, k := range queries(m) {
-			rest := entries(m.Members[before(m.Members, k):])
+			rest := plain.Entries(m.Members[before(m.Members, k):])
 			for _, most := range append(numbers(len(m.Members)), len(rest)-1, len(rest), len(rest)+1) {
 				if len(m.Members) > 300 && most > 5 && most < math.MaxInt {
 					continue
@@ -471,7 +459,7 @@ func TestRankOfTwoKeys(t *testing.T) {
 func TestNthOfMaps(t *testing.T) {
 	eachMap(func(m plain.Map, n *node.Node) {
 		for i, x := range m.Members {
-			if e, ok := Nth(n, i); !ok || !same(e, x.Entry) {
+			if e, ok := Nth(n, i); !ok || !plain.Same(e, x.Entry) {
 				t.Fatalf("%s: Nth of %d = %x, %v, want %x", m.Name, i, e, ok, x.Entry)
 			}
 		}
@@ -534,14 +522,14 @@ func TestKeysThatDifferInTheLastBit(t *testing.T) {
 	h := plain.Hasher(256)
 	for _, k := range plain.Keys() {
 		m := plain.OfKeys(fmt.Sprintf("%x", k), k, plain.Flipped(k, 255))
-		n, want := m.Tree(h), entries(m.Members)
+		n, want := m.Tree(h), m.Entries()
 		checkEntries(t, m.Name, collect(All(n)), want)
 		checkEntries(t, m.Name, From(n, want[1].Key, 2), want[1:])
 		if l := Depths(n); !slices.Equal(l, []int{256, 256}) {
 			t.Errorf("%s: Depths = %v", m.Name, l)
 		}
 		for i, x := range want {
-			if e, ok := Nth(n, i); !ok || !same(e, x) || Rank(n, x.Key) != i {
+			if e, ok := Nth(n, i); !ok || !plain.Same(e, x) || Rank(n, x.Key) != i {
 				t.Errorf("%s: Nth of %d = %x, %v, and Rank %d", m.Name, i, e, ok, Rank(n, x.Key))
 			}
 		}
@@ -556,14 +544,14 @@ func TestRankNthAndFromAgree(t *testing.T) {
 	eachMap(func(m plain.Map, n *node.Node) {
 		for i, x := range Entries(n) {
 			e, ok := Nth(n, Rank(n, x.Key))
-			if Rank(n, x.Key) != i || !ok || !same(e, x) {
+			if Rank(n, x.Key) != i || !ok || !plain.Same(e, x) {
 				t.Fatalf("%s: Rank of %x = %d, want %d", m.Name, x.Key, Rank(n, x.Key), i)
 			}
 		}
 		for _, k := range queries(m) {
 			e, ok := Nth(n, Rank(n, k))
 			l := From(n, k, 1)
-			if ok != (len(l) == 1) || ok && !same(e, l[0]) {
+			if ok != (len(l) == 1) || ok && !plain.Same(e, l[0]) {
 				t.Fatalf("%s: From %x begins with %x, want %x", m.Name, k, l, e)
 			}
 			if i := Rank(n, k); i > 0 {
@@ -585,14 +573,14 @@ func checkNoneFrom(t *testing.T, m plain.Map, n *node.Node, k api.Key, e api.Ent
 // P11.1 to P11.3: what one goroutine does to its results does not change those of another one.
 func TestConcurrentCalls(t *testing.T) {
 	m := plain.Large()[3]
-	n, want := m.Tree(plain.Hasher(256)), entries(m.Members)
+	n, want := m.Tree(plain.Hasher(256)), m.Entries()
 	seq, depths := All(n), Depths(n)
 	var wait sync.WaitGroup
 	for i := range 8 {
 		wait.Go(func() {
 			k := want[10*i].Key
-			ok := slices.EqualFunc(collect(seq), want, same) && slices.EqualFunc(Entries(n), want, same) &&
-				slices.EqualFunc(From(n, k, 5), want[10*i:10*i+5], same) && slices.Equal(Depths(n), depths)
+			ok := slices.EqualFunc(collect(seq), want, plain.Same) && slices.EqualFunc(Entries(n), want, plain.Same) &&
+				slices.EqualFunc(From(n, k, 5), want[10*i:10*i+5], plain.Same) && slices.Equal(Depths(n), depths)
 			e, found := Nth(n, 10*i)
 			if !ok || !found || e.Key != k || Rank(n, k) != 10*i {
 				t.Error("another result")

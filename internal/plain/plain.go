@@ -2,6 +2,7 @@
 package plain
 
 import (
+	"bytes"
 	"slices"
 	"strconv"
 	"strings"
@@ -69,6 +70,9 @@ func (m Map) Keys() []api.Key {
 	return l
 }
 
+// Entries returns the entries of the map in ascending order of their keys.
+func (m Map) Entries() []api.Entry { return Entries(m.Members) }
+
 // Mixed returns the entries of the map in another order than that of the keys.
 func (m Map) Mixed() []api.Entry {
 	var l []api.Entry
@@ -84,6 +88,18 @@ func (m Map) Mixed() []api.Entry {
 func (m Map) search(digits string) (int, bool) {
 	return slices.BinarySearchFunc(m.Members, digits, func(x Member, s string) int { return strings.Compare(x.Text, s) })
 }
+
+// Entries returns the entries of members.
+func Entries(l []Member) []api.Entry {
+	var entries []api.Entry
+	for _, x := range l {
+		entries = append(entries, x.Entry)
+	}
+	return entries
+}
+
+// Same reports whether two entries have the same key and value.
+func Same(a, b api.Entry) bool { return a.Key == b.Key && bytes.Equal(a.Value, b.Value) }
 
 // With returns the members whose keys begin with some digits.
 func (m Map) With(digits string) []Member { return Begin(m.Members, digits) }
