@@ -10,15 +10,6 @@ import (
 	"sparsetree/internal/plain"
 )
 
-// from returns the numbers from first to last.
-func from(first, last int) []int {
-	var l []int
-	for i := first; i <= last; i++ {
-		l = append(l, i)
-	}
-	return l
-}
-
 // reversed returns a list from its end to its beginning.
 func reversed(l []int) []int {
 	l = slices.Clone(l)
@@ -81,7 +72,7 @@ func sets() []Bitmap {
 		l = append(l, Bitmap(k))
 	}
 	for n := range 256 {
-		l = append(l, setOf(from(0, n)), setOf(from(n, 255)))
+		l = append(l, setOf(plain.From(0, n)), setOf(plain.From(n, 255)))
 	}
 	for x := range 256 {
 		l = append(l, Bitmap(plain.Filled(byte(x))))
@@ -91,7 +82,7 @@ func sets() []Bitmap {
 
 // lists are lists of numbers by their names.
 func lists() map[string][]int {
-	all := from(0, 255)
+	all := plain.From(0, 255)
 	l := map[string][]int{
 		"nil": nil, "empty": {}, "ascending": all, "descending": reversed(all), "mixed": mixed(),
 		"the edges": {0, 7, 8, 254, 255}, "the edges of all bytes": {8, 15, 16, 23, 247, 248},
@@ -136,7 +127,7 @@ func TestOfHasItsBitsWhereLayer1HasThem(t *testing.T) {
 	for i, c := range []struct{ got, want Bitmap }{
 		{Of(0), Bitmap{128}}, {Of(1), Bitmap{64}}, {Of(7), Bitmap{1}}, {Of(8), Bitmap{0, 128}}, {Of(15), Bitmap{0, 1}},
 		{Of(247), Bitmap{30: 1}}, {Of(248), Bitmap{31: 128}}, {Of(254), Bitmap{31: 2}}, {Of(255), Bitmap{31: 1}},
-		{Of(0, 7, 8, 254, 255), Bitmap{0: 129, 1: 128, 31: 3}}, {Of(from(0, 255)...), full()},
+		{Of(0, 7, 8, 254, 255), Bitmap{0: 129, 1: 128, 31: 3}}, {Of(plain.From(0, 255)...), full()},
 	} {
 		if c.got != c.want {
 			t.Errorf("%d: Of = %x, want %x", i, c.got, c.want)
@@ -181,7 +172,7 @@ func checkNumber(t *testing.T, b Bitmap, depths []int, i int) {
 // P14.2
 func TestHasWithAndWithoutOfEveryNumber(t *testing.T) {
 	for _, b := range []Bitmap{{}, full(), setOf([]int{0}), setOf([]int{7, 8}), setOf([]int{254}), setOf([]int{255}),
-		setOf(from(0, 127)), setOf(from(128, 255)), Bitmap(plain.Filled(0xaa)), Bitmap(plain.Scattered(2, 1)[0])} {
+		setOf(plain.From(0, 127)), setOf(plain.From(128, 255)), Bitmap(plain.Filled(0xaa)), Bitmap(plain.Scattered(2, 1)[0])} {
 		for _, i := range plain.Numbers() {
 			checkNumber(t, b, members(b), i)
 		}
@@ -241,7 +232,7 @@ func TestWithAndWithoutOfNumbersOutsideReturnTheSet(t *testing.T) {
 
 // P14.2: from the empty set to the full one and back, in several orders.
 func TestWithAndWithoutReachEverySet(t *testing.T) {
-	for _, order := range [][]int{from(0, 255), reversed(from(0, 255)), mixed()} {
+	for _, order := range [][]int{plain.From(0, 255), reversed(plain.From(0, 255)), mixed()} {
 		var b Bitmap
 		for n, i := range order {
 			b = b.With(i)
@@ -289,7 +280,7 @@ func TestLenListAndLastOfEverySet(t *testing.T) {
 // P14.3
 func TestLenListAndLastAtTheirLimits(t *testing.T) {
 	checkDepths(t, Bitmap{}, nil)
-	checkDepths(t, full(), from(0, 255))
+	checkDepths(t, full(), plain.From(0, 255))
 	for i := range 256 {
 		var b Bitmap
 		b[i/8] = 128 >> (i % 8)

@@ -83,3 +83,12 @@ func Orders[T any](l []T, call func(l []T)) {
 		Orders(slices.Delete(slices.Clone(l), i, i+1), func(rest []T) { call(append(rest, l[i])) })
 	}
 }
+
+// From returns the numbers from first to last.
+func From(first, last int) []int {
+	var l []int
+	for i := first; i <= last; i++ {
+		l = append(l, i)
+	}
+	return l
+}
