@@ -3,7 +3,6 @@ package proof
 import (
 	"crypto/sha256"
 	"math"
-	"reflect"
 	"slices"
 	"strings"
 	"sync"
@@ -68,37 +67,17 @@ func describe(bits int, m plain.Map, k api.Key) api.Proof {
 	return p
 }
 
-// same compares two proofs without Equal.
-func same(p, q api.Proof) bool {
-	if len(p.Siblings) == 0 && len(q.Siblings) == 0 {
-		p.Siblings, q.Siblings = nil, nil
-	}
-	return reflect.DeepEqual(p, q)
-}
-
-// copied returns a proof whose Siblings are new, without Clone.
-func copied(p api.Proof) api.Proof {
-	p.Siblings = append([]api.Digest{}, p.Siblings...)
-	return p
-}
-
 // eachProof calls a function with the proof that Prove returns for keys that are in a map, and for others, with digests of several numbers of bits.
 func eachProof(bits []int, call func(h *digest.Hasher, m plain.Map, k api.Key, p api.Proof)) {
-	for _, b := range bits {
-		h := plain.Hasher(b)
-		for _, m := range plain.Maps() {
-			n := m.Tree(h)
-			for _, k := range m.Queries() {
-				call(h, m, k, Prove(h, n, k))
-			}
-		}
-	}
+	plain.EachQuery(bits, func(h *digest.Hasher, m plain.Map, n *node.Node, k api.Key) {
+		call(h, m, k, Prove(h, n, k))
+	})
 }
 
 // P15.1
 func TestProveDescribesTheWay(t *testing.T) {
 	eachProof(plain.Bits(), func(h *digest.Hasher, m plain.Map, k api.Key, p api.Proof) {
-		if want := describe(h.Bits(), m, k); !same(p, want) {
+		if want := describe(h.Bits(), m, k); !plain.SameProof(p, want) {
 			t.Fatalf("%d bits, %s: Prove of %x = %x, want %x", h.Bits(), m.Name, k, p, want)
 		}
 	})
@@ -108,7 +87,7 @@ func TestProveDescribesTheWay(t *testing.T) {
 func TestProveOfTheEmptyMap(t *testing.T) {
 	for _, bits := range plain.Bits() {
 		for _, k := range plain.Keys() {
-			if p := Prove(plain.Hasher(bits), nil, k); !same(p, api.Proof{}) {
+			if p := Prove(plain.Hasher(bits), nil, k); !plain.SameProof(p, api.Proof{}) {
 				t.Errorf("%d bits: Prove of %x = %x", bits, k, p)
 			}
 		}
@@ -122,7 +101,7 @@ func TestProveOfOneKey(t *testing.T) {
 		for _, k := range plain.Keys() {
 			m := plain.OfKeys("one", k)
 			for _, other := range plain.Neighbours(k) {
-				if p := Prove(h, m.Tree(h), other); !same(p, api.Proof{Kind: 1, Leaf: leafOf(bits, m.Entries()[0])}) {
+				if p := Prove(h, m.Tree(h), other); !plain.SameProof(p, api.Proof{Kind: 1, Leaf: leafOf(bits, m.Entries()[0])}) {
 					t.Fatalf("%d bits: Prove of %x in the map of %x = %x", bits, other, k, p)
 				}
 			}
@@ -139,7 +118,7 @@ func TestProveOfTwoKeys(t *testing.T) {
 		m := plain.OfKeys("two", a, b)
 		for _, k := range []api.Key{a, b, plain.Flipped(a, 0), plain.Flipped(b, i/2), plain.Flipped(b, 255), plain.Flipped(a, min(255, i+1))} {
 			got, want := Prove(h, m.Tree(h), k), describe(256, m, k)
-			if !same(got, want) || len(got.Siblings) != 1 || got.Depth > i+1 {
+			if !plain.SameProof(got, want) || len(got.Siblings) != 1 || got.Depth > i+1 {
 				t.Fatalf("keys that differ in bit %d: Prove of %x = %x, want %x", i, k, got, want)
 			}
 		}
@@ -179,7 +158,7 @@ func TestProveOfEachEnd(t *testing.T) {
 		{127, api.Proof{Kind: 1, Depth: 3, Leaf: leafOf(bits, e[2]), Bitmap: [32]byte{96}, Siblings: []api.Digest{one(0), one(1)}}},
 		{128, api.Proof{Kind: 0, Depth: 1, Bitmap: [32]byte{128}, Siblings: []api.Digest{digestOf(bits, m.Members, 1)}}},
 	} {
-		if p := Prove(h, m.Tree(h), api.Key{c.first}); !same(p, c.want) {
+		if p := Prove(h, m.Tree(h), api.Key{c.first}); !plain.SameProof(p, c.want) {
 			t.Errorf("Prove of %d = %x, want %x", c.first, p, c.want)
 		}
 	}
@@ -193,7 +172,7 @@ func TestProofsShareNoMemory(t *testing.T) {
 		for _, k := range m.Queries()[:10] {
 			p, kept := Prove(h, n, k), Prove(h, n, k)
 			clear(p.Siblings[:cap(p.Siblings)])
-			if want := describe(256, m, k); !same(kept, want) || !same(Prove(h, n, k), want) {
+			if want := describe(256, m, k); !plain.SameProof(kept, want) || !plain.SameProof(Prove(h, n, k), want) {
 				t.Fatalf("%s: the proof of %x is changed", m.Name, k)
 			}
 		}
@@ -214,7 +193,7 @@ func TestProveOfATree(t *testing.T) {
 		}
 		root := x.Root()
 		for _, k := range m.Queries() {
-			if p := Prove(x.Hasher(), x.Node(), k); !same(p, describe(256, m, k)) {
+			if p := Prove(x.Hasher(), x.Node(), k); !plain.SameProof(p, describe(256, m, k)) {
 				t.Errorf("%s: Prove of %x = %x", m.Name, k, p)
 			}
 		}
@@ -222,62 +201,6 @@ func TestProveOfATree(t *testing.T) {
 			t.Errorf("%s: the map is changed", m.Name)
 		}
 	}
-}
-
-// formed returns the well-formed proof of a kind with siblings at some ascending depths, the last of which is Depth - 1.
-func formed(kind int, depths ...int) api.Proof {
-	p := api.Proof{Kind: kind}
-	if kind == 1 {
-		p.Leaf = api.Leaf{Key: plain.Scattered(1, 1)[0], Value: api.Digest(plain.Scattered(2, 1)[0])}
-	}
-	for _, d := range depths {
-		p.Bitmap[d/8] |= 128 >> (d % 8)
-		p.Depth = d + 1
-	}
-	p.Siblings = digests(len(depths))
-	return p
-}
-
-// digests returns different digests.
-func digests(n int) []api.Digest {
-	l := make([]api.Digest, n)
-	for i, k := range plain.Scattered(3, n) {
-		l[i] = api.Digest(k)
-	}
-	return l
-}
-
-// depthLists returns ascending lists of depths: of none, of one, of some, and of all.
-func depthLists() [][]int {
-	l := [][]int{nil, {0, 1}, {0, 7}, {7, 8}, {3, 100}, {0, 255}, {254, 255}, {0, 1, 2, 50, 128, 200, 253}, plain.From(0, 254), plain.From(0, 255), plain.From(1, 255), plain.From(100, 200)}
-	for _, d := range []int{0, 1, 6, 7, 8, 9, 100, 127, 128, 253, 254, 255} {
-		l = append(l, []int{d})
-	}
-	return l
-}
-
-// goodProofs returns well-formed proofs.
-func goodProofs() []api.Proof {
-	l := []api.Proof{{}, {Kind: 1}, {Siblings: []api.Digest{}}}
-	for _, depths := range depthLists() {
-		l = append(l, formed(0, depths...), formed(1, depths...))
-	}
-	return l
-}
-
-// badKinds returns kinds that a proof must not have: next to the two that it may have, those of other things, and ones whose low bits are those of 0 and 1.
-func badKinds() []int {
-	return []int{-1, api.Inner, api.Sibling, 4, -2, 255, 256, 257, -256, -255, 1 << 31, 1 << 32, 1<<32 + 1, math.MinInt, math.MinInt + 1, math.MaxInt - 1, math.MaxInt}
-}
-
-// someDepths returns depths in, next to and far from the range from 0 to 256.
-func someDepths() []int {
-	return []int{0, 1, 2, 7, 8, 9, 100, 101, 127, 128, 129, 254, 255, 256, -1, -2, -256, 257, 258, 512, 1 << 32, 1<<32 + 1, math.MinInt, math.MinInt + 1, math.MaxInt - 1, math.MaxInt}
-}
-
-// someLeaves returns the zero leaf, and such that are not zero in their key only, in their digest only, and in both.
-func someLeaves() []api.Leaf {
-	return []api.Leaf{{}, {Key: api.Key{128}}, {Key: api.Key{31: 1}}, {Value: api.Digest{128}}, {Value: api.Digest{31: 1}}, {Key: api.Key{16: 1}, Value: api.Digest{15: 1}}}
 }
 
 // expected tells what Check of a proof returns, as the chapter says it.
@@ -301,65 +224,16 @@ func expected(p api.Proof) api.Errno {
 	return 0
 }
 
-// broken is a proof that is not well-formed for a single reason.
-type broken struct {
-	name  string
-	proof api.Proof
-	errno api.Errno
-}
-
-// breaks returns what is made of a well-formed proof by breaking a single condition.
-func breaks(p api.Proof) []broken {
-	var l []broken
-	add := func(name string, errno api.Errno, change func(q *api.Proof)) {
-		q := copied(p)
-		change(&q)
-		l = append(l, broken{name, q, errno})
-	}
-	for _, kind := range badKinds() {
-		add("kind", api.ErrKind, func(q *api.Proof) { q.Kind = kind })
-	}
-	for _, depth := range append(someDepths(), p.Depth-1, p.Depth+1) {
-		if depth != p.Depth {
-			add("depth", api.ErrForm, func(q *api.Proof) { q.Depth = depth })
-		}
-	}
-	if p.Kind == 0 {
-		for _, leaf := range someLeaves()[1:] {
-			add("leaf", api.ErrForm, func(q *api.Proof) { q.Leaf = leaf })
-		}
-	}
-	for d := p.Depth; d < 256; d++ {
-		add("a depth too great", api.ErrForm, func(q *api.Proof) {
-			q.Bitmap[d/8] |= 128 >> (d % 8)
-			q.Siblings = append(q.Siblings, api.Digest{})
-		})
-	}
-	add("one Sibling too many", api.ErrForm, func(q *api.Proof) { q.Siblings = append(q.Siblings, api.Digest{}) })
-	add("far too many Siblings", api.ErrForm, func(q *api.Proof) { q.Siblings = digests(300) })
-	if p.Depth > 0 {
-		add("without the last depth", api.ErrForm, func(q *api.Proof) {
-			q.Bitmap[(p.Depth-1)/8] &^= 128 >> ((p.Depth - 1) % 8)
-			q.Siblings = q.Siblings[1:]
-		})
-		add("one Sibling too few", api.ErrForm, func(q *api.Proof) { q.Siblings = q.Siblings[1:] })
-		add("no Siblings", api.ErrForm, func(q *api.Proof) { q.Siblings = []api.Digest{} })
-		add("nil Siblings", api.ErrForm, func(q *api.Proof) { q.Siblings = nil })
-		add("an empty Bitmap", api.ErrForm, func(q *api.Proof) { q.Bitmap = [32]byte{} })
-	}
-	return l
-}
-
 // P15.2
 func TestCheckOfWellFormedProofs(t *testing.T) {
-	for _, p := range goodProofs() {
+	for _, p := range plain.GoodProofs() {
 		if errno := Check(p); errno != api.OK {
 			t.Errorf("%x: %v", p, errno)
 		}
 	}
 	for d := range 257 {
 		for kind := range 2 {
-			if errno := Check(formed(kind, plain.From(0, d-1)...)); errno != api.OK {
+			if errno := Check(plain.Formed(kind, plain.From(0, d-1)...)); errno != api.OK {
 				t.Errorf("kind %d, all depths before %d: %v", kind, d, errno)
 			}
 		}
@@ -368,10 +242,10 @@ func TestCheckOfWellFormedProofs(t *testing.T) {
 
 // P15.2
 func TestCheckOfEachCondition(t *testing.T) {
-	for _, p := range goodProofs() {
-		for _, b := range breaks(p) {
-			if errno := Check(b.proof); errno != b.errno {
-				t.Errorf("%s: %x: %v, want %v", b.name, b.proof, errno, b.errno)
+	for _, p := range plain.GoodProofs() {
+		for _, b := range plain.Breaks(p) {
+			if errno := Check(b.Proof); errno != b.Errno {
+				t.Errorf("%s: %x: %v, want %v", b.Name, b.Proof, errno, b.Errno)
 			}
 		}
 	}
@@ -379,12 +253,12 @@ func TestCheckOfEachCondition(t *testing.T) {
 
 // P15.2: several conditions that are broken at the same time, of which the kind comes first.
 func TestCheckReturnsErrKindFirst(t *testing.T) {
-	for _, p := range goodProofs() {
-		for _, b := range breaks(p) {
-			for _, kind := range badKinds() {
-				b.proof.Kind = kind
-				if errno := Check(b.proof); errno != api.ErrKind {
-					t.Fatalf("kind and %s: %x: %v", b.name, b.proof, errno)
+	for _, p := range plain.GoodProofs() {
+		for _, b := range plain.Breaks(p) {
+			for _, kind := range plain.BadKinds() {
+				b.Proof.Kind = kind
+				if errno := Check(b.Proof); errno != api.ErrKind {
+					t.Fatalf("kind and %s: %x: %v", b.Name, b.Proof, errno)
 				}
 			}
 		}
@@ -393,12 +267,12 @@ func TestCheckReturnsErrKindFirst(t *testing.T) {
 
 // P15.2: conditions in each combination.
 func TestCheckOfEveryCombination(t *testing.T) {
-	found, seen := map[api.Errno]int{}, digests(300)
-	for _, depths := range depthLists() {
-		p := formed(1, depths...)
-		for _, kind := range append(badKinds(), 0, 1) {
-			for _, depth := range append(someDepths(), p.Depth) {
-				for _, leaf := range someLeaves() {
+	found, seen := map[api.Errno]int{}, plain.Digests(300)
+	for _, depths := range plain.DepthLists() {
+		p := plain.Formed(1, depths...)
+		for _, kind := range append(plain.BadKinds(), 0, 1) {
+			for _, depth := range append(plain.SomeDepths(), p.Depth) {
+				for _, leaf := range plain.SomeLeaves() {
 					for _, n := range []int{0, 1, len(depths), len(depths) + 1, max(0, len(depths)-1), 255, 256, 257} {
 						q := api.Proof{Kind: kind, Depth: depth, Leaf: leaf, Bitmap: p.Bitmap, Siblings: seen[:n]}
 						errno := Check(q)
@@ -411,7 +285,7 @@ func TestCheckOfEveryCombination(t *testing.T) {
 			}
 		}
 	}
-	if len(found) != 3 || !slices.Equal(seen, digests(300)) {
+	if len(found) != 3 || !slices.Equal(seen, plain.Digests(300)) {
 		t.Errorf("errors %v, or the Siblings are changed", found)
 	}
 }
@@ -437,7 +311,7 @@ func TestSupportsOfEachLength(t *testing.T) {
 	value := api.Digest(plain.Filled(7))
 	for _, at := range plain.Keys() {
 		for i := range 256 {
-			for _, depth := range append(someDepths(), i-1, i, i+1) {
+			for _, depth := range append(plain.SomeDepths(), i-1, i, i+1) {
 				p := api.Proof{Kind: 1, Depth: depth, Leaf: api.Leaf{Key: at, Value: value}}
 				checkSupports(t, p, at, value)
 				checkSupports(t, p, plain.Flipped(at, i), value)
@@ -451,7 +325,7 @@ func TestSupportsOfEachLength(t *testing.T) {
 // P15.3: the right digest, and ones that differ in a single bit, for both kinds and for others.
 func TestSupportsOfEachDigest(t *testing.T) {
 	right := plain.Scattered(5, 1)[0]
-	for _, kind := range append(badKinds(), 0, 1) {
+	for _, kind := range append(plain.BadKinds(), 0, 1) {
 		for _, k := range plain.Keys() {
 			for _, depth := range []int{math.MinInt, -1, 0, 1, 128, 255, 256, 257, math.MaxInt} {
 				p := api.Proof{Kind: kind, Depth: depth, Leaf: api.Leaf{Key: k, Value: api.Digest(right)}}
@@ -466,9 +340,9 @@ func TestSupportsOfEachDigest(t *testing.T) {
 
 // P15.3: zeros at the end of a proof are a leaf only if its kind says so.
 func TestSupportsOfZeros(t *testing.T) {
-	for _, kind := range append(badKinds(), 0, 1) {
+	for _, kind := range append(plain.BadKinds(), 0, 1) {
 		for _, k := range plain.Neighbours(api.Key{}) {
-			for _, depth := range someDepths() {
+			for _, depth := range plain.SomeDepths() {
 				checkSupports(t, api.Proof{Kind: kind, Depth: depth}, k, api.Digest{})
 				checkSupports(t, api.Proof{Kind: kind, Depth: depth}, k, api.Digest{1})
 			}
@@ -478,44 +352,33 @@ func TestSupportsOfZeros(t *testing.T) {
 
 // P15.3: neither the Bitmap nor the Siblings matter, as in proofs that are not well-formed.
 func TestSupportsOfMalformedProofs(t *testing.T) {
-	for _, p := range goodProofs() {
-		for _, b := range breaks(p) {
+	for _, p := range plain.GoodProofs() {
+		for _, b := range plain.Breaks(p) {
 			for _, k := range []api.Key{p.Leaf.Key, plain.Flipped(p.Leaf.Key, 0), plain.Flipped(p.Leaf.Key, 255), {}} {
-				checkSupports(t, b.proof, k, p.Leaf.Value)
-				checkSupports(t, b.proof, k, api.Digest{9})
+				checkSupports(t, b.Proof, k, p.Leaf.Value)
+				checkSupports(t, b.Proof, k, api.Digest{9})
 			}
 		}
 	}
 }
 
-// anyProofs returns proofs that are well-formed, and others.
-func anyProofs() []api.Proof {
-	l := goodProofs()
-	for _, p := range []api.Proof{{}, formed(1, 0), formed(0, 3, 100), formed(1, plain.From(0, 255)...)} {
-		for _, b := range breaks(p) {
-			l = append(l, b.proof)
-		}
-	}
-	return l
-}
-
 // P15.4: clones of a proof are changed, and the proof is changed; no change is seen elsewhere.
 func TestClonesAreIndependent(t *testing.T) {
-	for _, p := range anyProofs() {
-		want := copied(p)
+	for _, p := range plain.AnyProofs() {
+		want := plain.CopyOf(p)
 		a, b, c := Clone(p), Clone(p), Clone(Clone(p))
-		if !same(p, want) || !same(a, want) || !same(b, want) || !same(c, want) {
+		if !plain.SameProof(p, want) || !plain.SameProof(a, want) || !plain.SameProof(b, want) || !plain.SameProof(c, want) {
 			t.Fatalf("%x: the clones %x, %x, %x", want, a, b, c)
 		}
 		clear(a.Siblings[:cap(a.Siblings)])
 		a.Siblings = append(a.Siblings, api.Digest{1}, api.Digest{2})
 		a.Kind, a.Depth, a.Leaf, a.Bitmap = -9, -9, api.Leaf{Key: api.Key{9}}, [32]byte{9}
-		if !same(p, want) || !same(b, want) || !same(c, want) {
+		if !plain.SameProof(p, want) || !plain.SameProof(b, want) || !plain.SameProof(c, want) {
 			t.Fatalf("%x: after a clone was changed: %x, %x, %x", want, p, b, c)
 		}
 		clear(p.Siblings)
 		_ = append(p.Siblings, api.Digest{3})
-		if !same(b, want) || !same(c, want) {
+		if !plain.SameProof(b, want) || !plain.SameProof(c, want) {
 			t.Fatalf("%x: after the proof was changed: %x, %x", want, b, c)
 		}
 	}
@@ -524,11 +387,11 @@ func TestClonesAreIndependent(t *testing.T) {
 // P15.4 and rule 4 of the document: what is behind the length of the Siblings is neither read nor written.
 func TestCloneAndEqualKeepToTheLength(t *testing.T) {
 	for n := range 4 {
-		l, other := digests(6), append(digests(n), digests(9)[5:]...)
+		l, other := plain.Digests(6), append(plain.Digests(n), plain.Digests(9)[5:]...)
 		p, q := api.Proof{Siblings: l[:n]}, api.Proof{Siblings: other[:n]}
 		c := Clone(p)
 		_ = append(c.Siblings, api.Digest{7})
-		if !slices.Equal(l, digests(6)) || !same(c, p) || !Equal(p, q) || !Equal(c, q) || !Equal(p, api.Proof{Siblings: digests(n)}) {
+		if !slices.Equal(l, plain.Digests(6)) || !plain.SameProof(c, p) || !Equal(p, q) || !Equal(c, q) || !Equal(p, api.Proof{Siblings: plain.Digests(n)}) {
 			t.Errorf("%d Siblings: %x, %x", n, l, c)
 		}
 		if Equal(api.Proof{Siblings: l[:n]}, api.Proof{Siblings: l[:n+1]}) || Equal(api.Proof{Siblings: l[:n+1]}, api.Proof{Siblings: l[:n]}) {
@@ -540,33 +403,33 @@ func TestCloneAndEqualKeepToTheLength(t *testing.T) {
 // checkEqual checks Equal of two proofs, in both orders.
 func checkEqual(t *testing.T, name string, p, q api.Proof, want bool) {
 	t.Helper()
-	before, after := copied(p), copied(q)
+	before, after := plain.CopyOf(p), plain.CopyOf(q)
 	if Equal(p, q) != want || Equal(q, p) != want {
 		t.Fatalf("%s: Equal of %x and %x: want %v", name, p, q, want)
 	}
-	if !same(p, before) || !same(q, after) {
+	if !plain.SameProof(p, before) || !plain.SameProof(q, after) {
 		t.Fatalf("%s: Equal changed %x or %x", name, before, after)
 	}
 }
 
 // P15.4
 func TestEqualOfAllPairs(t *testing.T) {
-	l := anyProofs()
+	l := plain.AnyProofs()
 	for i := 0; i < len(l); i += 2 {
 		checkEqual(t, "itself", l[i], l[i], true)
-		checkEqual(t, "a copy", l[i], copied(l[i]), true)
+		checkEqual(t, "a copy", l[i], plain.CopyOf(l[i]), true)
 		checkEqual(t, "its clone", l[i], Clone(l[i]), true)
 		for j := 0; j < len(l); j += 7 {
-			checkEqual(t, "another one", l[i], l[j], same(l[i], l[j]))
+			checkEqual(t, "another one", l[i], l[j], plain.SameProof(l[i], l[j]))
 		}
 	}
 	checkEqual(t, "nil and empty", api.Proof{}, api.Proof{Siblings: []api.Digest{}}, true)
-	checkEqual(t, "nil and empty of a slice", api.Proof{Kind: 5}, api.Proof{Kind: 5, Siblings: digests(3)[:0]}, true)
+	checkEqual(t, "nil and empty of a slice", api.Proof{Kind: 5}, api.Proof{Kind: 5, Siblings: plain.Digests(3)[:0]}, true)
 }
 
 // P15.4: proofs that differ in a single field, by as little as possible.
 func TestEqualOfProofsThatDifferInOneField(t *testing.T) {
-	for _, p := range anyProofs() {
+	for _, p := range plain.AnyProofs() {
 		for name, change := range map[string]func(q *api.Proof){
 			"kind, next":              func(q *api.Proof) { q.Kind++ },
 			"kind, far":               func(q *api.Proof) { q.Kind ^= 1 << 32 },
@@ -581,7 +444,7 @@ func TestEqualOfProofsThatDifferInOneField(t *testing.T) {
 			"a Sibling more":          func(q *api.Proof) { q.Siblings = append(q.Siblings, api.Digest{}) },
 			"a Sibling more in front": func(q *api.Proof) { q.Siblings = append([]api.Digest{{}}, q.Siblings...) },
 		} {
-			q := copied(p)
+			q := plain.CopyOf(p)
 			change(&q)
 			checkEqual(t, name, p, q, false)
 		}
@@ -591,18 +454,18 @@ func TestEqualOfProofsThatDifferInOneField(t *testing.T) {
 // P15.4: Siblings that differ in a single bit, in their order, and in their number.
 func TestEqualOfSiblings(t *testing.T) {
 	for _, n := range []int{1, 2, 3, 256} {
-		p := formed(1, plain.From(0, n-1)...)
+		p := plain.Formed(1, plain.From(0, n-1)...)
 		for i := range n {
 			for _, bit := range []int{0, 1, 128, 254, 255} {
-				q := copied(p)
+				q := plain.CopyOf(p)
 				q.Siblings[i] = api.Digest(plain.Flipped(api.Key(q.Siblings[i]), bit))
 				checkEqual(t, "a bit", p, q, false)
 			}
-			q := copied(p)
+			q := plain.CopyOf(p)
 			q.Siblings = slices.Delete(q.Siblings, i, i+1)
 			checkEqual(t, "one less", p, q, false)
 		}
-		q := copied(p)
+		q := plain.CopyOf(p)
 		slices.Reverse(q.Siblings)
 		checkEqual(t, "the order", p, q, n == 1)
 		q.Siblings = nil
@@ -629,7 +492,7 @@ func expand(bits int, p api.Proof) []api.Digest {
 func TestExpandOfWellFormedProofs(t *testing.T) {
 	for _, bits := range plain.Bits() {
 		h := plain.Hasher(bits)
-		for _, p := range goodProofs() {
+		for _, p := range plain.GoodProofs() {
 			if l, errno := Expand(h, p); errno != api.OK || !slices.Equal(l, expand(bits, p)) {
 				t.Errorf("%d bits, %x: Expand = %x, %v", bits, p, l, errno)
 			}
@@ -640,17 +503,17 @@ func TestExpandOfWellFormedProofs(t *testing.T) {
 // P15.5: no siblings, those at all depths, at the last one only, and at some.
 func TestExpandOfEachPlace(t *testing.T) {
 	h := plain.Hasher(256)
-	empty, d := sum(256, 3), digests(3)
+	empty, d := sum(256, 3), plain.Digests(3)
 	for _, c := range []struct {
 		depths []int
 		want   []api.Digest
 	}{
 		{nil, nil}, {[]int{0}, d[:1]}, {[]int{0, 1, 2}, d}, {[]int{1}, []api.Digest{empty, d[0]}},
 		{[]int{0, 3}, []api.Digest{d[0], empty, empty, d[1]}}, {[]int{1, 2, 4}, []api.Digest{empty, d[0], d[1], empty, d[2]}},
-		{plain.From(0, 255), digests(256)}, {[]int{255}, append(slices.Repeat([]api.Digest{empty}, 255), d[0])},
+		{plain.From(0, 255), plain.Digests(256)}, {[]int{255}, append(slices.Repeat([]api.Digest{empty}, 255), d[0])},
 	} {
 		for kind := range 2 {
-			if l, errno := Expand(h, formed(kind, c.depths...)); errno != api.OK || !slices.Equal(l, c.want) {
+			if l, errno := Expand(h, plain.Formed(kind, c.depths...)); errno != api.OK || !slices.Equal(l, c.want) {
 				t.Errorf("kind %d, siblings at %v: Expand = %x, %v", kind, c.depths, l, errno)
 			}
 		}
@@ -676,14 +539,14 @@ func TestExpandOfProve(t *testing.T) {
 // P15.5: a proof that is malformed has nothing but an error.
 func TestExpandOfMalformedProofs(t *testing.T) {
 	h := plain.Hasher(256)
-	for _, p := range goodProofs() {
-		for _, b := range breaks(p) {
-			if l, errno := Expand(h, b.proof); len(l) != 0 || errno != b.errno {
-				t.Errorf("%s: Expand of %x = %x, %v, want %v", b.name, b.proof, l, errno, b.errno)
+	for _, p := range plain.GoodProofs() {
+		for _, b := range plain.Breaks(p) {
+			if l, errno := Expand(h, b.Proof); len(l) != 0 || errno != b.Errno {
+				t.Errorf("%s: Expand of %x = %x, %v, want %v", b.Name, b.Proof, l, errno, b.Errno)
 			}
-			b.proof.Kind = api.Inner
-			if l, errno := Expand(h, b.proof); len(l) != 0 || errno != api.ErrKind {
-				t.Errorf("kind and %s: Expand of %x = %x, %v", b.name, b.proof, l, errno)
+			b.Proof.Kind = api.Inner
+			if l, errno := Expand(h, b.Proof); len(l) != 0 || errno != api.ErrKind {
+				t.Errorf("kind and %s: Expand of %x = %x, %v", b.Name, b.Proof, l, errno)
 			}
 		}
 	}
@@ -692,13 +555,13 @@ func TestExpandOfMalformedProofs(t *testing.T) {
 // P15.5 and rule 4 of the document: the digests that were returned and the proof may be changed.
 func TestExpandSharesNoMemory(t *testing.T) {
 	h := plain.Hasher(256)
-	for _, p := range goodProofs() {
-		want := copied(p)
+	for _, p := range plain.GoodProofs() {
+		want := plain.CopyOf(p)
 		l, _ := Expand(h, p)
 		kept, _ := Expand(h, p)
 		clear(l[:cap(l)])
 		_ = append(l, api.Digest{1})
-		if !same(p, want) {
+		if !plain.SameProof(p, want) {
 			t.Fatalf("after the digests were changed: the proof %x, want %x", p, want)
 		}
 		clear(p.Siblings)
@@ -711,18 +574,18 @@ func TestExpandSharesNoMemory(t *testing.T) {
 // Rule 4 of the document: no function changes a proof, or what is behind its Siblings.
 func TestProofsAreNotChanged(t *testing.T) {
 	h := plain.Hasher(256)
-	for _, p := range anyProofs() {
-		whole := append(slices.Clone(p.Siblings), digests(2)...)
+	for _, p := range plain.AnyProofs() {
+		whole := append(slices.Clone(p.Siblings), plain.Digests(2)...)
 		before := slices.Clone(whole)
 		p.Siblings = whole[:len(p.Siblings)]
-		want := copied(p)
+		want := plain.CopyOf(p)
 		Check(p)
 		Supports(p, p.Leaf.Key, p.Leaf.Value, true)
 		Supports(p, api.Key{1}, p.Leaf.Value, false)
 		Clone(p)
 		Equal(p, p)
 		Expand(h, p)
-		if !same(p, want) || !slices.Equal(whole, before) {
+		if !plain.SameProof(p, want) || !slices.Equal(whole, before) {
 			t.Fatalf("%x: changed to %x", want, p)
 		}
 	}
@@ -781,7 +644,7 @@ func TestConcurrentCalls(t *testing.T) {
 			for _, k := range m.Queries() {
 				p := Prove(own, n, k)
 				l, errno := Expand(own, p)
-				if !same(p, describe(256, m, k)) || Check(p) != api.OK || errno != api.OK || !slices.Equal(l, expand(256, p)) || !Equal(p, Clone(p)) {
+				if !plain.SameProof(p, describe(256, m, k)) || Check(p) != api.OK || errno != api.OK || !slices.Equal(l, expand(256, p)) || !Equal(p, Clone(p)) {
 					t.Errorf("other results for %x", k)
 				}
 			}

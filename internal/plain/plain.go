@@ -1,4 +1,4 @@
-// Package plain is for tests only: it keeps maps as lists of their keys with their bits as digits, from which it tells what trees look like without the packages that change and read them.
+// Package plain is for tests only: it keeps maps as lists of their keys with their bits as digits, from which it tells what trees look like without the packages that change and read them, and makes proofs that are well-formed, and others.
 package plain
 
 import (

@@ -44,3 +44,16 @@ func Difference(h *digest.Hasher, got, want *node.Node) string {
 	}
 	return ""
 }
+
+// EachQuery calls a function with the tree of each map and with keys that are in the map, and others, with digests of several numbers of bits.
+func EachQuery(bits []int, call func(h *digest.Hasher, m Map, n *node.Node, k api.Key)) {
+	for _, b := range bits {
+		h := Hasher(b)
+		for _, m := range Maps() {
+			n := m.Tree(h)
+			for _, k := range m.Queries() {
+				call(h, m, n, k)
+			}
+		}
+	}
+}
