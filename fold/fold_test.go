@@ -328,14 +328,7 @@ func TestFoldOfMaps(t *testing.T) {
 				t.Fatalf("%d bits, %s: the step at depth %d for %x is %x", h.Bits(), m.Name, d, k, steps[len(way)-1-d])
 			}
 		}
-		switch {
-		case p.Kind == api.Empty:
-			ends["empty"]++
-		case p.Leaf.Key == k:
-			ends["the key"]++
-		default:
-			ends["another key"]++
-		}
+		ends[plain.EndOf(p, k)]++
 	})
 	if len(ends) != 3 {
 		t.Errorf("ends: %v", ends)
@@ -424,18 +417,13 @@ func TestRootOfOtherProofs(t *testing.T) {
 // Rule 4 of the document: no function changes a proof, what is behind its Siblings, or a key.
 func TestProofsAreNotChanged(t *testing.T) {
 	h := plain.Hasher(256)
-	for _, p := range plain.AnyProofs() {
-		whole := append(slices.Clone(p.Siblings), plain.Digests(2)...)
-		before := slices.Clone(whole)
-		p.Siblings = whole[:len(p.Siblings)]
-		want, k := plain.CopyOf(p), plain.Filled(0x3c)
+	for _, p := range plain.Changed(func(p api.Proof) {
 		End(h, p)
-		Steps(h, p, k)
-		Root(h, p, k)
-		Preimages(h, p, k)
-		if !plain.SameProof(p, want) || !slices.Equal(whole, before) || k != plain.Filled(0x3c) {
-			t.Fatalf("%x: changed to %x, key %x", want, p, k)
-		}
+		Steps(h, p, api.Key{0x3c})
+		Root(h, p, api.Key{0x3c})
+		Preimages(h, p, api.Key{0x3c})
+	}) {
+		t.Errorf("%x is changed", p)
 	}
 }
 

@@ -574,20 +574,15 @@ func TestExpandSharesNoMemory(t *testing.T) {
 // Rule 4 of the document: no function changes a proof, or what is behind its Siblings.
 func TestProofsAreNotChanged(t *testing.T) {
 	h := plain.Hasher(256)
-	for _, p := range plain.AnyProofs() {
-		whole := append(slices.Clone(p.Siblings), plain.Digests(2)...)
-		before := slices.Clone(whole)
-		p.Siblings = whole[:len(p.Siblings)]
-		want := plain.CopyOf(p)
+	for _, p := range plain.Changed(func(p api.Proof) {
 		Check(p)
 		Supports(p, p.Leaf.Key, p.Leaf.Value, true)
 		Supports(p, api.Key{1}, p.Leaf.Value, false)
 		Clone(p)
 		Equal(p, p)
 		Expand(h, p)
-		if !plain.SameProof(p, want) || !slices.Equal(whole, before) {
-			t.Fatalf("%x: changed to %x", want, p)
-		}
+	}) {
+		t.Errorf("%x is changed", p)
 	}
 }
 

@@ -74,6 +74,17 @@ func SameProof(p, q api.Proof) bool {
 	return p.Kind == q.Kind && p.Depth == q.Depth && p.Leaf == q.Leaf && p.Bitmap == q.Bitmap && slices.Equal(p.Siblings, q.Siblings)
 }
 
+// EndOf tells at what the way of a key ends, according to its proof.
+func EndOf(p api.Proof, k api.Key) string {
+	switch {
+	case p.Kind == api.Empty:
+		return "empty"
+	case p.Leaf.Key == k:
+		return "the key"
+	}
+	return "another key"
+}
+
 // Broken is a proof that is not well-formed for a single reason.
 type Broken struct {
 	Name  string
@@ -129,6 +140,22 @@ func AnyProofs() []api.Proof {
 	for _, p := range []api.Proof{{}, Formed(1, 0), Formed(0, 3, 100), Formed(1, From(0, 255)...)} {
 		for _, b := range Breaks(p) {
 			l = append(l, b.Proof)
+		}
+	}
+	return l
+}
+
+// Changed returns the proofs whose Siblings, or what is behind them, a function changes.
+func Changed(call func(p api.Proof)) []api.Proof {
+	var l []api.Proof
+	for _, p := range AnyProofs() {
+		whole := append(slices.Clone(p.Siblings), Digests(2)...)
+		before := slices.Clone(whole)
+		given := p
+		given.Siblings = whole[:len(p.Siblings)]
+		call(given)
+		if !slices.Equal(whole, before) {
+			l = append(l, p)
 		}
 	}
 	return l
