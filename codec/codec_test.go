@@ -3,7 +3,6 @@ package codec
 import (
 	"bytes"
 	"slices"
-	"strings"
 	"sync"
 	"testing"
 
@@ -14,40 +13,10 @@ import (
 	"sparsetree/proof"
 )
 
-// encoded returns the encoding of a well-formed proof, as the chapter says it.
-func encoded(p api.Proof) []byte {
-	parts := [][]byte{{1, byte(p.Kind), byte(p.Depth / 256), byte(p.Depth % 256)}, p.Bitmap[:]}
-	if p.Kind == 1 {
-		parts = append(parts, p.Leaf.Key[:], p.Leaf.Value[:])
-	}
-	for _, d := range p.Siblings {
-		parts = append(parts, d[:])
-	}
-	return slices.Concat(parts...)
-}
-
-// errorOf tells what Decode of bytes returns, as the chapter says it.
-func errorOf(b []byte) api.Errno {
-	switch {
-	case len(b) < 36:
-		return 5
-	case b[0] != 1:
-		return 6
-	case b[1] > 1:
-		return 7
-	}
-	digits := plain.Text(api.Key(b[4:36]))
-	size := 36 + 64*int(b[1]) + 32*strings.Count(digits, "1")
-	if int(b[2])*256+int(b[3]) != strings.LastIndex(digits, "1")+1 || len(b) != size {
-		return 5
-	}
-	return 0
-}
-
 // checkProof checks all functions for a well-formed proof.
 func checkProof(t *testing.T, p api.Proof) {
 	t.Helper()
-	want := encoded(p)
+	want := plain.Encoding(p)
 	if n := Size(p); n != len(want) || n > 36+64+32*len(p.Siblings) {
 		t.Fatalf("%x: Size = %d, want %d", p, n, len(want))
 	}
@@ -66,7 +35,7 @@ func checkProof(t *testing.T, p api.Proof) {
 func checkBytes(t *testing.T, name string, b []byte) api.Errno {
 	t.Helper()
 	p, errno := Decode(b)
-	if want := errorOf(b); errno != want {
+	if want := plain.DecodeError(b); errno != want {
 		t.Fatalf("%s: Decode of %x = %x, %v, want %v", name, b, p, errno, want)
 	}
 	if errno != api.OK {
@@ -76,7 +45,7 @@ func checkBytes(t *testing.T, name string, b []byte) api.Errno {
 		return errno
 	}
 	again, second := Encode(p)
-	if second != api.OK || !bytes.Equal(again, b) || !bytes.Equal(encoded(p), b) {
+	if second != api.OK || !bytes.Equal(again, b) || !bytes.Equal(plain.Encoding(p), b) {
 		t.Fatalf("%s: Encode of %x = %x, %v, want %x", name, p, again, second, b)
 	}
 	if proof.Check(p) != api.OK || Size(p) != len(b) {
@@ -240,7 +209,7 @@ func TestKindOfEachByte(t *testing.T) {
 
 // P17.3 and P17.4
 func TestNoBytes(t *testing.T) {
-	for _, b := range [][]byte{nil, {}, encoded(api.Proof{})[:0]} {
+	for _, b := range [][]byte{nil, {}, plain.Encoding(api.Proof{})[:0]} {
 		if kind, errno := Kind(b); kind != 0 || errno != api.ErrForm {
 			t.Errorf("Kind = %d, %v", kind, errno)
 		}
@@ -293,7 +262,7 @@ func TestDecodeReturnsTheFirstError(t *testing.T) {
 func TestDecodeOfEachLength(t *testing.T) {
 	checkAll(t, []api.Errno{api.OK, api.ErrForm}, func(check func(name string, b []byte)) {
 		for _, p := range plain.GoodProofs() {
-			b := encoded(p)
+			b := plain.Encoding(p)
 			whole := append(slices.Clone(b), make([]byte, 100)...)
 			for n := range len(whole) + 1 {
 				if n < 200 || n%32 < 9 || n > len(b)-40 {
@@ -308,7 +277,7 @@ func TestDecodeOfEachLength(t *testing.T) {
 func TestDecodeOfChangedBytes(t *testing.T) {
 	checkAll(t, []api.Errno{api.OK, api.ErrForm, api.ErrVersion, api.ErrKind}, func(check func(name string, b []byte)) {
 		for _, p := range plain.GoodProofs() {
-			b := encoded(p)
+			b := plain.Encoding(p)
 			for i := range b {
 				if i >= 132 && i < len(b)-32 {
 					continue
@@ -327,7 +296,7 @@ func TestDecodeOfChangedBytes(t *testing.T) {
 func TestDecodeOfPartsTooFewOrTooMany(t *testing.T) {
 	checkAll(t, []api.Errno{api.ErrForm, api.ErrVersion, api.ErrKind}, func(check func(name string, b []byte)) {
 		for _, p := range plain.GoodProofs() {
-			b := encoded(p)
+			b := plain.Encoding(p)
 			starts := []int{0, 1, 2, 3, 4}
 			for i := 36; i <= len(b); i += 32 {
 				starts = append(starts, i)
@@ -346,7 +315,7 @@ func TestDecodeOfPartsTooFewOrTooMany(t *testing.T) {
 // P17.4: of all numbers that two bytes can say, one is the depth.
 func TestDecodeOfEachDepth(t *testing.T) {
 	for _, p := range []api.Proof{{}, {Kind: 1}, plain.Formed(0, 0), plain.Formed(1, 0, 1), plain.Formed(0, 254), plain.Formed(1, 255), plain.Formed(0, 0, 255)} {
-		b := encoded(p)
+		b := plain.Encoding(p)
 		for depth := range 1 << 16 {
 			b[2], b[3] = byte(depth/256), byte(depth%256)
 			if errno := checkBytes(t, "depth", b); (errno == api.OK) != (depth == p.Depth) {
@@ -359,7 +328,7 @@ func TestDecodeOfEachDepth(t *testing.T) {
 // P17.4: depths beyond 256, with siblings at all depths.
 func TestDecodeOfDepthsThatAreTooGreat(t *testing.T) {
 	for kind := range 2 {
-		b := encoded(plain.Formed(kind, plain.From(0, 255)...))
+		b := plain.Encoding(plain.Formed(kind, plain.From(0, 255)...))
 		for _, depth := range []int{257, 258, 511, 512, 768, 32768, 65280, 65535} {
 			b[2], b[3] = byte(depth/256), byte(depth%256)
 			for _, n := range []int{len(b), len(b) + 32} {
@@ -378,12 +347,12 @@ func TestDecodeOfOtherBitmaps(t *testing.T) {
 			for i := range 256 {
 				q := plain.CopyOf(p)
 				q.Bitmap = [32]byte(plain.Flipped(api.Key(q.Bitmap), i))
-				check("as many", encoded(q))
+				check("as many", plain.Encoding(q))
 				q.Siblings = append(q.Siblings, api.Digest{1})
-				check("one more", encoded(q))
+				check("one more", plain.Encoding(q))
 				if q.Siblings = p.Siblings; len(q.Siblings) > 0 {
 					q.Siblings = p.Siblings[1:]
-					check("one less", encoded(q))
+					check("one less", plain.Encoding(q))
 				}
 			}
 		}
@@ -399,7 +368,7 @@ func TestDecodeOfWrongLastDepths(t *testing.T) {
 			early, late := plain.Formed(kind, 0, d-1), plain.Formed(kind, d-1)
 			early.Depth, late.Depth = d+1, d-1
 			for _, p := range []api.Proof{empty, early, late} {
-				if q, errno := Decode(encoded(p)); errno != api.ErrForm || !plain.SameProof(q, api.Proof{}) {
+				if q, errno := Decode(plain.Encoding(p)); errno != api.ErrForm || !plain.SameProof(q, api.Proof{}) {
 					t.Fatalf("%x: Decode = %x, %v", p, q, errno)
 				}
 			}
@@ -414,7 +383,7 @@ func TestDecodeOfTooManySiblings(t *testing.T) {
 			for _, more := range []int{1, 2, 3, 255, 256, 257, 512, 1 << 16} {
 				p := plain.Formed(kind, depths...)
 				p.Siblings = append(p.Siblings, make([]api.Digest, more)...)
-				if q, errno := Decode(encoded(p)); errno != api.ErrForm || !plain.SameProof(q, api.Proof{}) {
+				if q, errno := Decode(plain.Encoding(p)); errno != api.ErrForm || !plain.SameProof(q, api.Proof{}) {
 					t.Fatalf("kind %d, siblings at %v, and %d more: Decode = %x, %v", kind, depths, more, q, errno)
 				}
 			}
@@ -424,7 +393,7 @@ func TestDecodeOfTooManySiblings(t *testing.T) {
 
 // P1 of the document: bytes that are too long for a proof do not take memory of their own size.
 func TestDecodeOfLongBytesTakesNoMemory(t *testing.T) {
-	b := append(encoded(plain.Formed(0, plain.From(0, 255)...)), make([]byte, 1<<24)...)
+	b := append(plain.Encoding(plain.Formed(0, plain.From(0, 255)...)), make([]byte, 1<<24)...)
 	if n := testing.AllocsPerRun(4, func() { Decode(b) }); n > 0 {
 		t.Errorf("Decode of %d bytes takes memory %v times", len(b), n)
 	}
@@ -433,7 +402,7 @@ func TestDecodeOfLongBytesTakesNoMemory(t *testing.T) {
 // P17.4 and P17.5: a leaf in a proof that has none is read as two siblings, and two siblings as a leaf.
 func TestDecodeOfLeaves(t *testing.T) {
 	for _, depths := range plain.DepthLists() {
-		full, empty := encoded(plain.Formed(1, depths...)), encoded(plain.Formed(0, depths...))
+		full, empty := plain.Encoding(plain.Formed(1, depths...)), plain.Encoding(plain.Formed(0, depths...))
 		for name, b := range map[string][]byte{"leaf without kind": marked(full, 1, 0), "kind without leaf": marked(empty, 1, 1)} {
 			if errno := checkBytes(t, name, b); errno != api.ErrForm {
 				t.Errorf("%s, siblings at %v: %v", name, depths, errno)
@@ -441,12 +410,12 @@ func TestDecodeOfLeaves(t *testing.T) {
 		}
 	}
 	three, one := plain.Formed(0, 0, 1, 2), plain.Formed(1, 2)
-	as := encoded(one)
+	as := plain.Encoding(one)
 	as[1], as[4] = 0, 224
 	if p, errno := Decode(as); errno != api.OK || p.Leaf != (api.Leaf{}) || !slices.Equal(p.Siblings, []api.Digest{api.Digest(one.Leaf.Key), one.Leaf.Value, one.Siblings[0]}) {
 		t.Errorf("the leaf as siblings: %x, %v", p, errno)
 	}
-	as = encoded(three)
+	as = plain.Encoding(three)
 	as[1], as[4] = 1, 32
 	if p, errno := Decode(as); errno != api.OK || p.Leaf != (api.Leaf{Key: api.Key(three.Siblings[0]), Value: three.Siblings[1]}) || !slices.Equal(p.Siblings, three.Siblings[2:]) {
 		t.Errorf("the siblings as a leaf: %x, %v", p, errno)
@@ -503,7 +472,7 @@ func TestProofsAreNotChanged(t *testing.T) {
 // Rule 4 of the document: no function changes the bytes, and what is behind them is neither read nor written.
 func TestBytesAreNotChanged(t *testing.T) {
 	for _, p := range plain.GoodProofs() {
-		whole := append(encoded(p), 1, 2, 3)
+		whole := append(plain.Encoding(p), 1, 2, 3)
 		for _, n := range []int{0, 1, 2, 35, 36, 68, 100, 132, len(whole) - 4, len(whole) - 3, len(whole) - 2} {
 			b := whole[:min(n, len(whole))]
 			before := slices.Clone(whole)
@@ -519,7 +488,7 @@ func TestBytesAreNotChanged(t *testing.T) {
 // Rule 4 of the document: what was given and what was returned may be changed, with what is behind it; no other result changes.
 func TestResultsShareNoMemory(t *testing.T) {
 	for _, p := range plain.GoodProofs() {
-		before, want := plain.CopyOf(p), encoded(p)
+		before, want := plain.CopyOf(p), plain.Encoding(p)
 		b, _ := Encode(p)
 		kept, _ := Encode(p)
 		clear(b[:cap(b)])
@@ -550,7 +519,7 @@ func TestConcurrentCalls(t *testing.T) {
 				b, _ := Encode(p)
 				q, errno := Decode(b)
 				kind, _ := Kind(b)
-				if errno != api.OK || !bytes.Equal(b, encoded(p)) || !plain.SameProof(p, q) || kind != p.Kind || Size(p) != len(b) {
+				if errno != api.OK || !bytes.Equal(b, plain.Encoding(p)) || !plain.SameProof(p, q) || kind != p.Kind || Size(p) != len(b) {
 					t.Errorf("other results for %x", p)
 				}
 			}

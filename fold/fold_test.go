@@ -29,26 +29,9 @@ func bytesOf(first byte, parts ...[]byte) []byte {
 	return append([]byte{first}, slices.Concat(parts...)...)
 }
 
-// images returns the preimages of a well-formed proof for a key, from the root to the end, as the chapter says it.
+// images returns the preimages of a well-formed proof for a key, from the root to the end.
 func images(bits int, p api.Proof, k api.Key) [][]byte {
-	l := make([][]byte, p.Depth+1)
-	l[p.Depth] = bytesOf(3)
-	if p.Kind == 1 {
-		l[p.Depth] = bytesOf(0, p.Leaf.Key[:], p.Leaf.Value[:])
-	}
-	depths, digits, rest := plain.Text(api.Key(p.Bitmap)), plain.Text(k), len(p.Siblings)
-	for d := p.Depth - 1; d >= 0; d-- {
-		below, beside := sumOf(bits, l[d+1]), sum(bits, 3)
-		if depths[d] == '1' {
-			rest--
-			beside = p.Siblings[rest]
-		}
-		l[d] = bytesOf(1, below[:], beside[:])
-		if digits[d] == '1' {
-			l[d] = bytesOf(1, beside[:], below[:])
-		}
-	}
-	return l
+	return plain.Images(func(b []byte) api.Digest { return sumOf(bits, b) }, p, k)
 }
 
 // upwards returns the digests of preimages, of the last one first.
@@ -174,17 +157,9 @@ func TestFoldOfWellFormedProofs(t *testing.T) {
 // P16.2 and P16.3: each depth, and at each one a key with the bit 0 and one with the bit 1.
 func TestFoldOfEachDepth(t *testing.T) {
 	h := plain.Hasher(256)
-	for d := range 257 {
-		for kind := range 2 {
-			proofs := []api.Proof{plain.Formed(kind, plain.From(0, d-1)...)}
-			if d > 0 {
-				proofs = append(proofs, plain.Formed(kind, d-1))
-			}
-			for _, p := range proofs {
-				for _, k := range []api.Key{plain.Filled(0xaa), plain.Filled(0x55)} {
-					checkFold(t, h, p, k)
-				}
-			}
+	for _, p := range plain.OfEachDepth() {
+		for _, k := range []api.Key{plain.Filled(0xaa), plain.Filled(0x55)} {
+			checkFold(t, h, p, k)
 		}
 	}
 }

@@ -39,6 +39,18 @@ func DepthLists() [][]int {
 	return l
 }
 
+// OfEachDepth returns well-formed proofs of each depth and kind, with siblings at all depths, and at the last one only.
+func OfEachDepth() []api.Proof {
+	var l []api.Proof
+	for kind := range 2 {
+		l = append(l, Formed(kind))
+		for d := range 256 {
+			l = append(l, Formed(kind, From(0, d)...), Formed(kind, d))
+		}
+	}
+	return l
+}
+
 // GoodProofs returns well-formed proofs.
 func GoodProofs() []api.Proof {
 	l := []api.Proof{{}, {Kind: 1}, {Siblings: []api.Digest{}}}
