@@ -15,31 +15,17 @@ import (
 	"sparsetree/tree"
 )
 
-// sum returns the digest of a byte and the parts behind it, for a number of bits.
-func sum(bits int, first byte, parts ...[]byte) api.Digest {
-	return digest.Cut(sha256.Sum256(append([]byte{first}, slices.Concat(parts...)...)), bits)
+// sumOf returns the function that computes digests of a number of bits, without a hasher.
+func sumOf(bits int) plain.Sum {
+	return func(b []byte) api.Digest { return digest.Cut(sha256.Sum256(b), bits) }
 }
 
 // leafOf returns the leaf of an entry.
-func leafOf(bits int, e api.Entry) api.Leaf {
-	return api.Leaf{Key: e.Key, Value: sum(bits, 2, e.Value)}
-}
+func leafOf(bits int, e api.Entry) api.Leaf { return sumOf(bits).Leaf(e) }
 
 // digestOf returns the digest of the subtree of members at a depth.
 func digestOf(bits int, l []plain.Member, depth int) api.Digest {
-	switch len(l) {
-	case 0:
-		return sum(bits, 3)
-	case 1:
-		leaf := leafOf(bits, l[0].Entry)
-		return sum(bits, 0, leaf.Key[:], leaf.Value[:])
-	}
-	zeros := 0
-	for zeros < len(l) && l[zeros].Text[depth] == '0' {
-		zeros++
-	}
-	left, right := digestOf(bits, l[:zeros], depth+1), digestOf(bits, l[zeros:], depth+1)
-	return sum(bits, 1, left[:], right[:])
+	return sumOf(bits).Subtree(l, depth)
 }
 
 // siblings returns the members beside the way of a key, for each depth.
@@ -479,7 +465,7 @@ func expand(bits int, p api.Proof) []api.Digest {
 	next := 0
 	for _, digit := range plain.Text(api.Key(p.Bitmap))[:p.Depth] {
 		if digit == '0' {
-			l = append(l, sum(bits, 3))
+			l = append(l, sumOf(bits).Of(3))
 			continue
 		}
 		l = append(l, p.Siblings[next])
@@ -503,7 +489,7 @@ func TestExpandOfWellFormedProofs(t *testing.T) {
 // P15.5: no siblings, those at all depths, at the last one only, and at some.
 func TestExpandOfEachPlace(t *testing.T) {
 	h := plain.Hasher(256)
-	empty, d := sum(256, 3), plain.Digests(3)
+	empty, d := sumOf(256).Of(3), plain.Digests(3)
 	for _, c := range []struct {
 		depths []int
 		want   []api.Digest
