@@ -2,7 +2,6 @@ package multi
 
 import (
 	"bytes"
-	"math"
 	"slices"
 	"sync"
 	"testing"
@@ -11,53 +10,10 @@ import (
 	"sparsetree/internal/plain"
 )
 
-// ends are the items that are no Inner ones.
-func ends() []api.Item { return []api.Item{anEmpty, aFull, zeroFull, aSibling, zeroSibling} }
-
-// badKinds are kinds that an item must not have.
-func badKinds() []int {
-	return []int{-1, 4, 5, -2, -3, 255, 256, 257, 258, 259, -256, -255, 1 << 31, 1<<31 + 1, 1 << 32, 1<<32 + 1, 1<<32 + 2, 1<<32 + 3, math.MinInt, math.MinInt + 1, math.MaxInt - 1, math.MaxInt}
-}
-
-// impure returns the items with a kind whose Digest or Leaf is not zero though the kind does not use it.
-func impure() []api.Item {
-	var l []api.Item
-	for _, bit := range []int{0, 7, 100, 255} {
-		x := plain.Flipped(api.Key{}, bit)
-		for kind := range 4 {
-			if kind != api.Sibling {
-				l = append(l, api.Item{Kind: kind, Digest: api.Digest(x)})
-			}
-			if kind != api.Full {
-				l = append(l, api.Item{Kind: kind, Leaf: api.Leaf{Key: x}}, api.Item{Kind: kind, Leaf: api.Leaf{Value: api.Digest(x)}})
-			}
-		}
-		l = append(l, api.Item{Kind: api.Full, Digest: api.Digest(x), Leaf: aFull.Leaf}, api.Item{Kind: api.Sibling, Digest: aSibling.Digest, Leaf: aFull.Leaf})
-	}
-	return l
-}
-
-// wellFormed returns well-formed lists of few items and of many, flat ones and deep ones.
-func wellFormed() [][]api.Item {
-	var l [][]api.Item
-	for n := range 3 {
-		l = append(l, shapes(n+1, ends())...)
-	}
-	l = append(l, complete("", 5), complete("", 10))
-	for _, k := range []api.Key{{}, plain.Filled(255), plain.Filled(0x5a)} {
-		for _, n := range []int{1, 2, 7, 8, 9, 100, 255, 256} {
-			for _, x := range ends() {
-				l = append(l, chain(k, n, x, func(depth int) api.Item { return ends()[depth%5] }))
-			}
-		}
-	}
-	return l
-}
-
 // checkErrno checks that all functions that read a list return its error, and nothing else, for good keys and for wrong ones.
 func checkErrno(t *testing.T, name string, l []api.Item, want api.Errno) {
 	t.Helper()
-	if errno := formOf(l); errno != want {
+	if errno := plain.FormOf(l); errno != want {
 		t.Fatalf("%s: %s: the test expects %v and %v", name, text(l), errno, want)
 	}
 	k := plain.Filled(0x5a)
@@ -66,10 +22,10 @@ func checkErrno(t *testing.T, name string, l []api.Item, want api.Errno) {
 
 // P19.3
 func TestCheckOfWellFormedLists(t *testing.T) {
-	for _, l := range wellFormed() {
+	for _, l := range plain.GoodItems() {
 		checkErrno(t, "well-formed", l, api.OK)
 	}
-	for _, l := range shapes(4, ends()) {
+	for _, l := range plain.Shapes(4, plain.EndItems()) {
 		if errno := Check(l); errno != api.OK {
 			t.Errorf("%s: Check = %v", text(l), errno)
 		}
@@ -78,7 +34,7 @@ func TestCheckOfWellFormedLists(t *testing.T) {
 
 // P19.3: the list that has no items, be it nil or not.
 func TestCheckOfNoItems(t *testing.T) {
-	for _, l := range [][]api.Item{nil, {}, wellFormed()[0][:0]} {
+	for _, l := range [][]api.Item{nil, {}, plain.GoodItems()[0][:0]} {
 		checkErrno(t, "no items", l, api.ErrForm)
 	}
 }
@@ -90,7 +46,7 @@ func TestCheckOfAllShortLists(t *testing.T) {
 	var l []api.Item
 	var extend func(n int)
 	extend = func(n int) {
-		want := formOf(l)
+		want := plain.FormOf(l)
 		found[want]++
 		if errno := Check(l); errno != want {
 			t.Fatalf("%s: Check = %v, want %v", text(l), errno, want)
@@ -112,13 +68,13 @@ func TestCheckOfAllShortLists(t *testing.T) {
 
 // P19.3: too few items and too many.
 func TestCheckOfWrongNumbersOfItems(t *testing.T) {
-	for _, l := range wellFormed() {
+	for _, l := range plain.GoodItems() {
 		for _, n := range []int{0, 1, len(l) / 2, len(l) - 2, len(l) - 1} {
 			if n >= 0 && n < len(l) {
 				checkErrno(t, "too few", l[:n], api.ErrForm)
 			}
 		}
-		for _, x := range append(ends(), anInner) {
+		for _, x := range append(plain.EndItems(), anInner) {
 			checkErrno(t, "one too many", append(slices.Clone(l), x), api.ErrForm)
 			checkErrno(t, "two too many", append(slices.Clone(l), x, anEmpty), api.ErrForm)
 		}
@@ -133,9 +89,9 @@ func TestCheckOfWrongNumbersOfItems(t *testing.T) {
 // P19.3: an Inner item at depth 255 is permitted, and at depth 256 it is not, wherever it is.
 func TestCheckOfInnerItemsAtEachDepth(t *testing.T) {
 	for _, k := range plain.Keys() {
-		for _, beside := range ends() {
+		for _, beside := range plain.EndItems() {
 			for _, n := range []int{254, 255, 256, 257, 258, 300} {
-				l := chain(k, n, aFull, func(int) api.Item { return beside })
+				l := plain.Chain(k, n, aFull, func(int) api.Item { return beside })
 				want := api.OK
 				if n > 256 {
 					want = api.ErrForm
@@ -143,12 +99,12 @@ func TestCheckOfInnerItemsAtEachDepth(t *testing.T) {
 				checkErrno(t, "chain", l, want)
 			}
 		}
-		l := chain(k, 256, aFull, func(int) api.Item { return anEmpty })
+		l := plain.Chain(k, 256, aFull, func(int) api.Item { return anEmpty })
 		for i, x := range l {
 			longer := slices.Concat(l[:i], []api.Item{anInner, anEmpty, anEmpty}, l[i+1:])
-			all, _ := places(l)
+			all, _ := plain.Places(l)
 			want := api.OK
-			if x.Kind == api.Inner || len(all[i].way) == 256 {
+			if x.Kind == api.Inner || len(all[i].Way) == 256 {
 				want = api.ErrForm
 			}
 			if errno := Check(longer); errno != want {
@@ -160,9 +116,9 @@ func TestCheckOfInnerItemsAtEachDepth(t *testing.T) {
 
 // P19.3: lists of many items, which are well-formed or not.
 func TestCheckOfLongLists(t *testing.T) {
-	checkErrno(t, "complete", complete("", 13), api.OK)
-	checkErrno(t, "complete, one missing", complete("", 13)[:1<<14-2], api.ErrForm)
-	for _, x := range append(ends(), anInner) {
+	checkErrno(t, "complete", plain.Complete("", 13), api.OK)
+	checkErrno(t, "complete, one missing", plain.Complete("", 13)[:1<<14-2], api.ErrForm)
+	for _, x := range append(plain.EndItems(), anInner) {
 		l := slices.Repeat([]api.Item{x}, 1<<20)
 		if errno := Check(l); errno != api.ErrForm {
 			t.Errorf("the item %x again and again: Check = %v", x, errno)
@@ -176,13 +132,13 @@ func TestCheckOfLongLists(t *testing.T) {
 
 // P19.3: a Digest or a Leaf that is not zero, at each place of a list.
 func TestCheckOfFieldsThatAreNotZero(t *testing.T) {
-	for _, l := range [][]api.Item{{anEmpty}, {anInner, aFull, aSibling}, {anInner, anInner, anEmpty, aFull, aSibling}, {anInner, aSibling, anInner, aFull, zeroFull}, complete("", 3)} {
+	for _, l := range [][]api.Item{{anEmpty}, {anInner, aFull, aSibling}, {anInner, anInner, anEmpty, aFull, aSibling}, {anInner, aSibling, anInner, aFull, zeroFull}, plain.Complete("", 3)} {
 		for i, old := range l {
-			for _, x := range impure() {
+			for _, x := range plain.ImpureItems() {
 				changed := slices.Clone(l)
 				changed[i] = x
 				checkErrno(t, "another item", changed, api.ErrForm)
-				if changed[i].Kind = old.Kind; formOf(changed) != api.OK {
+				if changed[i].Kind = old.Kind; plain.FormOf(changed) != api.OK {
 					checkErrno(t, "other fields", changed, api.ErrForm)
 				}
 			}
@@ -192,8 +148,8 @@ func TestCheckOfFieldsThatAreNotZero(t *testing.T) {
 
 // P19.3: kinds that there are not, at each place, in lists that are well-formed otherwise, and in others.
 func TestCheckReturnsErrKindFirst(t *testing.T) {
-	for _, kind := range badKinds() {
-		for _, l := range [][]api.Item{{anEmpty}, {anInner, aFull, aSibling}, {anInner, anInner, anEmpty, aFull, aSibling}, {anInner, aSibling}, {aFull, aFull}, {anInner, anEmpty, aFull, anEmpty}, impure()} {
+	for _, kind := range plain.BadItemKinds() {
+		for _, l := range [][]api.Item{{anEmpty}, {anInner, aFull, aSibling}, {anInner, anInner, anEmpty, aFull, aSibling}, {anInner, aSibling}, {aFull, aFull}, {anInner, anEmpty, aFull, anEmpty}, plain.ImpureItems()} {
 			for i := range l {
 				changed := slices.Clone(l)
 				changed[i].Kind = kind
@@ -202,7 +158,7 @@ func TestCheckReturnsErrKindFirst(t *testing.T) {
 			checkErrno(t, "a wrong kind behind", append(slices.Clone(l), api.Item{Kind: kind}), api.ErrKind)
 			checkErrno(t, "a wrong kind and wrong fields behind", append(slices.Clone(l), api.Item{Kind: kind, Digest: api.Digest{1}, Leaf: aFull.Leaf}), api.ErrKind)
 		}
-		deep := append(chain(api.Key{}, 300, aFull, func(int) api.Item { return anEmpty }), api.Item{Kind: kind})
+		deep := append(plain.Chain(api.Key{}, 300, aFull, func(int) api.Item { return anEmpty }), api.Item{Kind: kind})
 		checkErrno(t, "a wrong kind behind Inner items that are too deep", deep, api.ErrKind)
 	}
 }
@@ -242,8 +198,8 @@ func TestRootOfNodes(t *testing.T) {
 		h, sum := plain.Hasher(bits), sumOf(bits)
 		node := func(a, b api.Digest) api.Digest { return sum.Of(1, a[:], b[:]) }
 		sums := []api.Digest{sum.Of(3), sum.Of(0, aFull.Leaf.Key[:], aFull.Leaf.Value[:]), sum.Of(0, make([]byte, 64)), aSibling.Digest, {}}
-		for i, a := range ends() {
-			for j, b := range ends() {
+		for i, a := range plain.EndItems() {
+			for j, b := range plain.EndItems() {
 				pair := []api.Item{anInner, a, b}
 				of := node(sums[i], sums[j])
 				for _, c := range []struct {
@@ -268,9 +224,9 @@ func TestRootOfNodes(t *testing.T) {
 func TestRootAndPreimages(t *testing.T) {
 	for _, bits := range []int{0, 1, 12, 256} {
 		h := plain.Hasher(bits)
-		lists := wellFormed()
+		lists := plain.GoodItems()
 		if bits == 12 {
-			lists = append(lists, shapes(4, ends())...)
+			lists = append(lists, plain.Shapes(4, plain.EndItems())...)
 		}
 		for _, l := range lists {
 			keys := keysAt(l)
@@ -288,8 +244,8 @@ func TestPreimagesOfEachDepth(t *testing.T) {
 		h := plain.Hasher(bits)
 		for _, k := range plain.Keys() {
 			for _, n := range []int{0, 1, 2, 8, 9, 255, 256} {
-				for _, x := range ends() {
-					l := chain(k, n, x, func(depth int) api.Item { return ends()[(depth+n)%5] })
+				for _, x := range plain.EndItems() {
+					l := plain.Chain(k, n, x, func(depth int) api.Item { return plain.EndItems()[(depth+n)%5] })
 					images, errno := Preimages(h, l, k)
 					if x.Kind == api.Sibling {
 						if len(images) != 0 || errno != api.ErrClaim {
@@ -335,7 +291,7 @@ func TestPreimagesOfListsThatDoNotFit(t *testing.T) {
 func TestEndsOfAllKeys(t *testing.T) {
 	found := map[api.Errno]int{}
 	for n := range 4 {
-		for _, l := range shapes(n+1, []api.Item{anEmpty, aFull, aSibling}) {
+		for _, l := range plain.Shapes(n+1, []api.Item{anEmpty, aFull, aSibling}) {
 			for _, keys := range subsets(keysAt(l)) {
 				found[checkEnds(t, l, keys)]++
 			}
@@ -349,9 +305,9 @@ func TestEndsOfAllKeys(t *testing.T) {
 // P19.5: ways that end at each depth, of one key and of several.
 func TestEndsOfEachDepth(t *testing.T) {
 	for i, k := range plain.Keys() {
-		for _, x := range ends() {
+		for _, x := range plain.EndItems() {
 			for n := i % 4; n < 257; n += 4 {
-				l := chain(k, n, x, func(depth int) api.Item { return ends()[(depth+n)%3] })
+				l := plain.Chain(k, n, x, func(depth int) api.Item { return plain.EndItems()[(depth+n)%3] })
 				for _, keys := range [][]api.Key{{k}, {plain.Flipped(k, n/2)}, {plain.Flipped(k, 255)}} {
 					checkEnds(t, l, keys)
 				}
@@ -382,8 +338,8 @@ func TestEndsAtASibling(t *testing.T) {
 
 // P19.5: an Inner item on the way of no key, to the left and to the right, whatever is below it.
 func TestEndsWithAnInnerItemBesideTheWays(t *testing.T) {
-	for _, a := range ends() {
-		for _, b := range ends() {
+	for _, a := range plain.EndItems() {
+		for _, b := range plain.EndItems() {
 			left, right := []api.Item{anInner, anInner, a, b, aFull}, []api.Item{anInner, aFull, anInner, a, b}
 			for _, c := range []struct {
 				l    []api.Item
@@ -404,13 +360,13 @@ func TestEndsOfManyKeys(t *testing.T) {
 		checkEnds(t, l, keys)
 	}
 	// All keys begin with the same 8 bits.
-	l := slices.Concat(slices.Repeat([]api.Item{anInner}, 8), complete("00000000", 20), slices.Repeat([]api.Item{aSibling}, 8))
+	l := slices.Concat(slices.Repeat([]api.Item{anInner}, 8), plain.Complete("00000000", 20), slices.Repeat([]api.Item{aSibling}, 8))
 	ends, errno := Ends(l, keys)
 	if errno != api.OK || len(ends) != len(keys) {
 		t.Fatalf("%d ends, %v", len(ends), errno)
 	}
 	for i, k := range keys {
-		if want := keyOf(plain.Text(k)[:20]); ends[i].Depth != 20 || ends[i].Item.Leaf.Key != want {
+		if want := plain.KeyOf(plain.Text(k)[:20]); ends[i].Depth != 20 || ends[i].Item.Leaf.Key != want {
 			t.Fatalf("the way of %x ends at %x", k, ends[i])
 		}
 	}
@@ -442,7 +398,7 @@ func TestEndsOfWrongKeys(t *testing.T) {
 // Rule 4 of the document: no function changes its arguments, or reads or writes what is behind them, and what was given may be changed after a call.
 func TestListsAreNotChanged(t *testing.T) {
 	h := plain.Hasher(256)
-	for _, l := range append(wellFormed(), []api.Item{anInner, aFull}, []api.Item{aFull, aFull}, []api.Item{{Kind: 4}}, impure()) {
+	for _, l := range append(plain.GoodItems(), []api.Item{anInner, aFull}, []api.Item{aFull, aFull}, []api.Item{{Kind: 4}}, plain.ImpureItems()) {
 		keys := keysAt(l)
 		if len(keys) == 0 {
 			keys = plain.Scattered(7, 4)
@@ -473,7 +429,7 @@ func TestListsAreNotChanged(t *testing.T) {
 // Rule 4 of the document: results may be changed, with what is behind them, and others are as before.
 func TestListsOfResultsShareNoMemory(t *testing.T) {
 	h := plain.Hasher(256)
-	for _, l := range wellFormed() {
+	for _, l := range plain.GoodItems() {
 		keys := keysAt(l)
 		first, _ := Ends(l, keys)
 		second, _ := Ends(l, keys)
@@ -498,7 +454,7 @@ func TestListsOfResultsShareNoMemory(t *testing.T) {
 
 // Rule 6 of the document: the functions may be called concurrently, for the same list.
 func TestConcurrentCalls(t *testing.T) {
-	lists := wellFormed()
+	lists := plain.GoodItems()
 	m := plain.Fives()[0]
 	tree := m.Tree(plain.Hasher(256))
 	var wait sync.WaitGroup

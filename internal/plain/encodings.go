@@ -51,6 +51,60 @@ func Decoded(b []byte) api.Proof {
 	return p
 }
 
+// ItemsEncoding returns the encoding of a well-formed multiproof, as chapter 20 says it.
+func ItemsEncoding(l []api.Item) []byte {
+	n := len(l)
+	parts := [][]byte{{1, 2, byte(n / 16777216), byte(n / 65536 % 256), byte(n / 256 % 256), byte(n % 256)}}
+	for _, x := range l {
+		parts = append(parts, []byte{byte(x.Kind)})
+		if x.Kind == 3 {
+			parts = append(parts, x.Digest[:])
+		}
+		if x.Kind == 1 {
+			parts = append(parts, x.Leaf.Key[:], x.Leaf.Value[:])
+		}
+	}
+	return slices.Concat(parts...)
+}
+
+// DecodedItems tells what mcodec.Decode of bytes returns, as chapter 20 says it.
+func DecodedItems(b []byte) ([]api.Item, api.Errno) {
+	switch {
+	case len(b) < 6:
+		return nil, 5
+	case b[0] != 1:
+		return nil, 6
+	case b[1] != 2:
+		return nil, 7
+	}
+	l, rest, ok := subtreeItems(nil, b[6:], 0)
+	if !ok || len(rest) > 0 || len(l) > 16777216 || !slices.Equal(b[2:6], ItemsEncoding(l)[2:6]) {
+		return nil, 5
+	}
+	return l, 0
+}
+
+// subtreeItems appends the items of the subtree at a depth with whose encoding bytes begin, and returns the bytes behind it.
+func subtreeItems(l []api.Item, b []byte, depth int) (items []api.Item, rest []byte, ok bool) {
+	if len(b) == 0 {
+		return nil, nil, false
+	}
+	kind, b := b[0], b[1:]
+	switch {
+	case kind == 0:
+		return append(l, api.Item{}), b, true
+	case kind == 1 && len(b) >= 64:
+		return append(l, api.Item{Kind: 1, Leaf: api.Leaf{Key: api.Key(b[:32]), Value: api.Digest(b[32:64])}}), b[64:], true
+	case kind == 3 && len(b) >= 32:
+		return append(l, api.Item{Kind: 3, Digest: api.Digest(b[:32])}), b[32:], true
+	case kind == 2 && depth < 256:
+		if l, b, ok = subtreeItems(append(l, api.Item{Kind: 2}), b, depth+1); ok {
+			return subtreeItems(l, b, depth+1)
+		}
+	}
+	return nil, nil, false
+}
+
 // Images returns the preimages of a well-formed proof for a key, from the root to the end, as chapter 16 says it, with a function that computes digests.
 func Images(sum func(b []byte) api.Digest, p api.Proof, k api.Key) [][]byte {
 	l := make([][]byte, p.Depth+1)

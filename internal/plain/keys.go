@@ -19,6 +19,17 @@ func Text(k api.Key) string {
 	return string(digits)
 }
 
+// KeyOf returns the key that begins with some digits, with zeros behind them.
+func KeyOf(digits string) api.Key {
+	var k api.Key
+	for i, c := range digits[:min(len(digits), api.Depth)] {
+		if c == '1' {
+			k[i/8] |= 128 >> (i % 8)
+		}
+	}
+	return k
+}
+
 // Flipped returns a key with some bits inverted.
 func Flipped(k api.Key, numbers ...int) api.Key {
 	for _, i := range numbers {

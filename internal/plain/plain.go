@@ -1,4 +1,4 @@
-// Package plain is for tests only: it keeps maps as lists of their keys with their bits as digits, from which it tells what trees look like without the packages that change and read them, makes proofs that are well-formed, and others, and encodes and folds them as the chapters say it.
+// Package plain is for tests only: it keeps maps as lists of their keys with their bits as digits, from which it tells what trees look like without the packages that change and read them, makes proofs and lists of items that are well-formed, and others, and encodes and folds them as the chapters say it.
 package plain
 
 import (
